@@ -1,0 +1,1 @@
+"""Foldlines: programs of a small machine, made smaller without changing a run."""
