@@ -1,0 +1,43 @@
+"""The examples of the document, as far as the files that are there can run them."""
+
+import unittest
+
+from foldlines.errors import Untidy
+from foldlines.flow import own, rows
+from foldlines.holders import shown
+from foldlines.programs import BareProgram, Program
+from foldlines.runs import run
+from foldlines.sweeping import is_swept
+from samples import rings, seen, twice
+
+
+class ExamplesTest(unittest.TestCase):
+    def test_twice(self):
+        told = [twice().size, run(twice(), [], 20), rows(twice(), "main")[3], own(twice(), "main")]
+        self.assertEqual(told, [9, ((10,), "back", 8), ("link",), (0, 1, 2, 4, 5)])
+
+    def test_untidy(self):
+        with self.assertRaises(Untidy) as caught:
+            Program.of(("call", "main"), ("back",))
+        self.assertEqual(repr(caught.exception), "Untidy('main')")
+
+    def test_text(self):
+        self.assertEqual(Program.of(("num", 0, -9), ("stop",)).text, "function main\nnum 0 -9\nstop")
+
+    def test_shown(self):
+        self.assertEqual((shown(seen()), shown(rings())), (("a", "b"), ()))
+
+    def test_programs_of_the_document(self):
+        facts = Program.read("function f\nnum 2 7\nback\nfunction main\nnum 0 100\ncall f\nnum 1 100\nout 1\nstop")
+        self.assertEqual(run(facts, [], 99), ((100,), "stop", 7))
+        text = (("in", 0), ("add", 0, 0, 0), ("mul", 1, 0, 0), ("out", 1))
+        again = Program({"main": text + text + text + (("stop",),)})
+        self.assertEqual(run(again, [1, 2, 3], 99)[0], (4, 16, 36))
+        ends = Program.of(("in", 0), ("less", 0, 1), ("if", "a"), ("out", 0), ("out", 1), ("out", 2), ("stop",),
+                          ("mark", "a"), ("in", 0), ("out", 1), ("out", 2), ("stop",))
+        self.assertEqual((ends.size, is_swept(ends)), (12, True))
+        loop = Program.of(("mark", "a"), ("in", 0), ("same", 0, 1), ("unless", "a"), ("stop",))
+        self.assertEqual((loop.size, is_swept(loop)), (5, True))
+        bare = BareProgram.read("function f\nin 0\nless 0 1\nif out\ncall f\nmark out\nback\n"
+                                "function main\ncall f\nout 0\nback")
+        self.assertEqual((is_swept(bare), run(bare, [-5, 6], 99)[:2]), (True, ((-5,), "back")))

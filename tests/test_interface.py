@@ -1,0 +1,127 @@
+"""The names, arguments and kinds of what the document lists for the files that are there."""
+
+import ast
+import inspect
+import pathlib
+import unittest
+
+from foldlines import errors, flow, holders, programs, runs, sweeping
+from foldlines.errors import NotSwept
+from foldlines.programs import BareProgram, Program
+from foldlines.runs import Run, run
+from samples import bare, twice
+
+FUNCTIONS = {
+    flow: {"reached": ["program", "name"], "ways": ["program", "name"], "rows": ["program", "name"],
+           "own": ["program", "name"], "live": ["program"]},
+    runs: {"run": ["program", "inputs", "most"]},
+    sweeping: {"swept": ["program"], "is_swept": ["program"]},
+    holders: {"holds": ["program"], "goals": ["program", "place"], "shown": ["program"]},
+}
+METHODS = {
+    Program: {"__init__": ["self", "functions"], "size_of": ["self", "name"], "places": ["self"],
+              "with_function": ["self", "name", "lines"], "without": ["self", "*names"], "of": ["cls", "*lines"],
+              "read": ["cls", "text"], "size_of_line": ["line"], "__getitem__": None, "__len__": None,
+              "__contains__": None, "__eq__": None},
+    BareProgram: {"__init__": ["self", "functions"]},
+    Run: {"__init__": ["self", "program", "inputs"], "step": ["self"], "go": ["self", "many"], "walk": ["self"]},
+}
+PROPERTIES = {
+    Program: ["functions", "names", "size", "text"],
+    Run: ["outputs", "end", "steps", "place", "depth", "visits"],
+}
+
+
+def parameters(action):
+    told = inspect.signature(action).parameters.values()
+    return ["*" + one.name if one.kind is one.VAR_POSITIONAL else one.name for one in told]
+
+
+class InterfaceTest(unittest.TestCase):
+    def test_functions(self):
+        for module, functions in FUNCTIONS.items():
+            for name, expected in functions.items():
+                with self.subTest(name):
+                    action = getattr(module, name)
+                    self.assertEqual(action.__module__, module.__name__)
+                    self.assertEqual(parameters(action), expected)
+
+    def test_methods_stand_in_their_classes(self):
+        for kind, methods in METHODS.items():
+            for name, expected in methods.items():
+                with self.subTest(kind=kind, name=name):
+                    self.assertIn(name, vars(kind))
+                    action = vars(kind)[name]
+                    action = getattr(action, "__func__", action)
+                    if expected is not None:
+                        self.assertEqual(parameters(action), expected)
+
+    def test_kinds_of_methods(self):
+        for name in ("of", "read"):
+            self.assertIsInstance(vars(Program)[name], classmethod)
+        self.assertIsInstance(vars(Program)["size_of_line"], staticmethod)
+        self.assertTrue(inspect.isgeneratorfunction(Program.places))
+        self.assertTrue(inspect.isgeneratorfunction(Run.walk))
+
+    def test_properties_stand_in_their_classes(self):
+        for kind, names in PROPERTIES.items():
+            for name in names:
+                self.assertIsInstance(vars(kind)[name], property)
+
+    def test_properties_are_not_assigned(self):
+        for thing, kind in ((twice(), Program), (Run(twice()), Run)):
+            for name in PROPERTIES[kind]:
+                with self.assertRaises(AttributeError):
+                    setattr(thing, name, None)
+
+    def test_inputs_need_not_be_given(self):
+        self.assertEqual(inspect.signature(Run).parameters["inputs"].default, ())
+
+    def test_classes_stand_in_their_files(self):
+        self.assertEqual((Program.__module__, BareProgram.__module__), ("foldlines.programs", "foldlines.programs"))
+        self.assertEqual(Run.__module__, "foldlines.runs")
+        self.assertEqual(BareProgram.__bases__, (Program,))
+        self.assertIsInstance(bare(), Program)
+        for name, value in vars(errors).items():
+            if isinstance(value, type):
+                self.assertEqual(value.__module__, "foldlines.errors", name)
+
+    def test_the_package_binds_nothing(self):
+        import foldlines
+        tree = ast.parse(pathlib.Path(foldlines.__file__).read_text())
+        self.assertEqual([kind for kind in map(type, tree.body) if kind is not ast.Expr], [])
+
+
+class ConventionsTest(unittest.TestCase):
+    def test_equal_calls_return_equal_results(self):
+        for action in (flow.live, holders.holds, holders.shown, sweeping.swept):
+            self.assertEqual(action(twice()), action(twice()))
+        self.assertEqual(run(twice(), [], 99), run(twice(), [], 99))
+
+    def test_a_call_that_raises_changes_nothing(self):
+        program = twice()
+        for action in (lambda: program.with_function("f", [None]), lambda: program.without("double"),
+                       lambda: program["gone"], lambda: program.size_of([]), lambda: flow.rows(program, None),
+                       lambda: holders.goals(program, ("main", 9)), lambda: Run(program, [None]),
+                       lambda: program.without("gone")):
+            with self.assertRaises((ValueError, LookupError)):
+                action()
+            self.assertEqual(program, twice())
+
+    def test_values_go_on_being_what_they_were(self):
+        functions = {"main": [("addr", 0, "f"), ("stop",)], "f": [("back",)]}
+        program = Program(functions)
+        functions["main"][0] = ("num", 0, 1)
+        functions["f"].append(("back",))
+        self.assertEqual(holders.holds(program)[0], ("f",))
+        self.assertEqual(flow.live(program), ("f", "main"))
+        self.assertEqual(sweeping.swept(program), program)
+
+    def test_two_errors_of_one_call(self):
+        program = Program.of(("stop",), ("stop",))
+        self.assertRaises(NotSwept, holders.goals, program, None)
+        self.assertRaises(errors.UnknownName, flow.reached, program, None)
+
+    def test_programs_are_not_gone_through(self):
+        with self.assertRaises(TypeError):
+            list(twice())
