@@ -26,7 +26,8 @@ BARRED_WORDS = re.compile(
 METHODS = set(
     "append clear copy count endswith extend find get index insert isalnum isalpha isdigit islower isspace isupper "
     "items join keys ljust lower lstrip partition pop remove replace reverse rfind rjust rpartition rsplit rstrip "
-    "setdefault split splitlines startswith strip update upper values zfill bit_length removeprefix removesuffix".split())
+    "setdefault split splitlines startswith strip update upper values zfill bit_length removeprefix "
+    "removesuffix".split())
 
 
 def files():
