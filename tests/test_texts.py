@@ -48,15 +48,16 @@ class TextTest(unittest.TestCase):
         self.wrong(["function main", "stop"], 0)
 
     def test_rows_that_are_none(self):
-        for row in ("", " ", "nop", "Stop", "STOP", "stop ", " stop", "stop\t", "back 0", "stop stop", "num", "num 0",
-                    "num 0 1 2", "num  0 1", "num 0  1", "num 0 1 ", "num 00 1", "num 0 01", "num 0 +1", "num +0 1",
-                    "num -0 1", "num 0 -0", "num 0 -01", "num 0 --1", "num 0 1-", "num 0 1.0", "num 0 0x1", "num 0 1x",
-                    "num 0 1_0", "num 0 a", "num 0 link", "num 6 1", "num -1 1", "num 0 2147483648",
-                    "num 0 -2147483649", "num 0 -", "num 0 " + "1" * 9999, "num 0 True", "num 0 None", "num a 0", "num 0,1",
-                    "copy 0", "copy 0 6", "add 0 0", "addr 0 F", "addr f 0", "addr 0 0", "addr 0", "push", "push Link", "push 6", "pop end",
-                    "read 0 60", "read 0 -1", "read 6 0", "write 60 0", "write 0 6", "mark", "mark 0", "mark A",
-                    "mark lettersss", "mark a b", "jump", "jump 0", "if", "unless 1", "call 0", "call F", "callr f",
-                    "callr 6", "tail", "tail 0", "function", "function ", "function A", "function a1", "function 0",
+        for row in ("", " ", "nop", "Stop", "STOP", "stop ", " stop", "stop\t", "back 0", "stop stop", "num",
+                    "num 0", "num 0 1 2", "num  0 1", "num 0  1", "num 0 1 ", "num 00 1", "num 0 01", "num 0 +1",
+                    "num +0 1", "num -0 1", "num 0 -0", "num 0 -01", "num 0 --1", "num 0 1-", "num 0 1.0",
+                    "num 0 0x1", "num 0 1x", "num 0 1_0", "num 0 a", "num 0 link", "num 6 1", "num -1 1",
+                    "num 0 2147483648", "num 0 -2147483649", "num 0 -", "num 0 " + "1" * 9999, "num 0 True",
+                    "num 0 None", "num a 0", "num 0,1", "copy 0", "copy 0 6", "add 0 0", "addr 0 F", "addr f 0",
+                    "addr 0 0", "addr 0", "push", "push Link", "push 6", "pop end", "read 0 60", "read 0 -1",
+                    "read 6 0", "write 60 0", "write 0 6", "mark", "mark 0", "mark A", "mark lettersss",
+                    "mark a b", "jump", "jump 0", "if", "unless 1", "call 0", "call F", "callr f", "callr 6",
+                    "tail", "tail 0", "function", "function ", "function A", "function a1", "function 0",
                     "function n o", "function lettersss", " function n", "functions n", "Function n", "main",
                     "stop;stop", "('stop',)", "0", "-1"):
             with self.subTest(row):
