@@ -61,7 +61,17 @@ def goals(program, place):
     held = holds(program)
     if not is_place(program, place):
         raise UnknownPlace(place)
-    line = program[place[0]][place[1]]
+    return _goals_of(program[place[0]][place[1]], held)
+
+
+def all_goals(program):
+    """A dict from all places to the goals of their lines."""
+    held = holds(program)
+    return {place: _goals_of(line, held) for place, line in program.places()}
+
+
+def _goals_of(line, held):
+    """The goals of a line, told what the registers hold."""
     if line[0] in ("call", "tail"):
         return (line[1],)
     return held[line[1]] if line[0] == "callr" else ()

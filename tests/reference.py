@@ -195,3 +195,289 @@ def holds(functions):
                 elif line[0] == "pop" and line[1] != "link" or line[0] == "read":
                     held[line[1]] |= held["stack"]
     return {key: tuple(sorted(names)) for key, names in held.items()}
+
+
+def written(line):
+    """What a line writes: a register or the flag."""
+    if line[0] in ("same", "less"):
+        return {"flag"}
+    if line[0] in ("num", "copy", "add", "sub", "mul", "addr", "in", "pop", "read"):
+        return {line[1]} - {"link"}
+    return set()
+
+
+def used(line):
+    word = line[0]
+    if word in ("if", "unless"):
+        return {"flag"}
+    if word in ("out", "push", "callr"):
+        return {line[1]} - {"link"}
+    if word in ("same", "less"):
+        return {line[1], line[2]}
+    if word in ("copy", "write"):
+        return {line[2]}
+    return {line[2], line[3]} if word in ("add", "sub", "mul") else set()
+
+
+def goals(functions, line):
+    if line[0] in ("call", "tail"):
+        return {line[1]}
+    return set(holds(functions)[line[1]]) if line[0] == "callr" else set()
+
+
+def places(functions):
+    return [((name, at), line) for name, lines in functions.items() for at, line in enumerate(lines)]
+
+
+def writes(functions):
+    told = {name: set() for name in functions}
+    for _ in functions:
+        for (name, _), line in places(functions):
+            told[name] |= written(line) - {"flag"}
+            for goal in goals(functions, line):
+                told[name] |= told[goal]
+    return {name: tuple(sorted(told[name])) for name in functions}
+
+
+def known(functions):
+    """Begins with all facts that one can think of, and strikes out those that the words do not let stand."""
+    numbers = {line[2] for _, line in places(functions) if line[0] == "num"}
+    table = {place: {(r, n) for r in range(6) for n in numbers} for place, _ in places(functions)}
+    for name in functions:
+        table[name, 0] = set()
+    lost = {}
+    for place, line in places(functions):
+        lost[place] = written(line) | {r for goal in goals(functions, line) for r in writes(functions)[goal]}
+    while True:
+        struck = False
+        for (name, at), line in places(functions):
+            behind = {(r, n) for r, n in table[name, at] if r not in lost[name, at]}
+            behind |= {(line[1], line[2])} if line[0] == "num" else set()
+            behind |= {(line[1], n) for r, n in table[name, at] if r == line[2]} if line[0] == "copy" else set()
+            for goal in leads(functions[name], at):
+                if not table[name, goal] <= behind:
+                    table[name, goal] &= behind
+                    struck = True
+        if not struck:
+            return {place: dict(sorted(table[place])) for place in table}
+
+
+def wanted(functions, gone=None):
+    """What is wanted ahead of all lines, and behind them; where gone is a list, as is_idle takes it."""
+    ahead = {place: set() for place, _ in places(functions)}
+    after = dict(ahead)
+    reach = {place: goals(functions, line) for place, line in places(functions)}
+    while True:
+        changed = False
+        for (name, at), line in reversed(places(functions)):
+            behind = set()
+            for goal in behind_places(functions, name, at, reach):
+                behind |= ahead[goal]
+            pure = line[0] in ("num", "copy", "addr", "read", "same")
+            told = behind - written(line)
+            if gone is None and (not pure or written(line) & behind) or gone is not None:
+                told |= used(line)
+            if gone is not None and (name, at) in gone:
+                told = behind
+            elif gone is None and pure and not written(line) & behind:
+                told = behind
+            if told != ahead[name, at] or behind != after[name, at]:
+                ahead[name, at], after[name, at], changed = told, behind, True
+        if not changed:
+            return ahead, after
+
+
+def behind_places(functions, name, at, reach):
+    line = functions[name][at]
+    if line[0] in ("call", "callr", "tail"):
+        return [(goal, 0) for goal in reach[name, at]]
+    if line[0] == "back":
+        told, todo, done = [], [name], set()
+        while todo:
+            f = todo.pop()
+            if f not in done:
+                done.add(f)
+                for (g, index), other in places(functions):
+                    if other[0] == "tail" and other[1] == f:
+                        todo.append(g)
+                    elif other[0] in ("call", "callr") and f in reach[g, index]:
+                        told.append((g, index + 1))
+        return told
+    return [(name, goal) for goal in leads(functions[name], at)]
+
+
+def in_order(told):
+    return (*sorted(told - {"flag"}), *(told & {"flag"}))
+
+
+def idle(functions):
+    after = wanted(functions)[1]
+    return tuple(place for place, line in places(functions)
+                 if line[0] in ("num", "copy", "addr", "read", "same") and not written(line) & after[place])
+
+
+def is_idle(functions, gone):
+    """For a list of different places of pure lines."""
+    after = wanted(functions, gone)[1]
+    return not any(written(functions[name][at]) & after[name, at] for name, at in gone)
+
+
+def link_wanted(lines):
+    """Goes along all ways from each line to see what comes first."""
+    told = []
+    for first in range(len(lines)):
+        todo, done, found = [first], set(), False
+        while todo:
+            at = todo.pop()
+            if at in done:
+                continue
+            done.add(at)
+            if lines[at] in (("back",), ("push", "link")) or lines[at][0] == "tail":
+                found = True
+            elif lines[at] != ("pop", "link") and lines[at][0] not in ("call", "callr"):
+                todo += leads(lines, at)
+        told += [first] if found else []
+    return tuple(told)
+
+
+def straightened(functions):
+    """One rule at the least place, and from the beginning again."""
+    functions = {name: list(lines) for name, lines in functions.items()}
+    while True:
+        before = {name: tuple(lines) for name, lines in functions.items()}
+        while one_rule(functions):
+            pass
+        functions = {name: list(lines) for name, lines in swept(functions).items()}
+        if before == {name: tuple(lines) for name, lines in functions.items()}:
+            return before
+
+
+def one_rule(functions):
+    for name in sorted(functions):
+        lines = functions[name]
+        for at, line in enumerate(lines):
+            if line[0] not in ("jump", "if", "unless"):
+                continue
+            labels = [line[1]]
+            while True:
+                behind = [other for other in lines[sites(lines)[labels[-1]]:] if other[0] != "mark"][0]
+                if behind[0] != "jump" or behind[1] in labels:
+                    break
+                labels.append(behind[1])
+            if behind[0] != "jump" and len(labels) > 1:
+                lines[at] = (line[0], labels[-1])
+                return True
+            if line[1] in marks_behind(lines, at):
+                del lines[at]
+                return True
+            if line[0] != "jump" and lines[at + 1][0] == "jump" and line[1] in marks_behind(lines, at + 1):
+                lines[at:at + 2] = [("unless" if line[0] == "if" else "if", lines[at + 1][1])]
+                return True
+    return False
+
+
+def marks_behind(lines, at):
+    """The labels of the marks directly behind a line."""
+    told = []
+    for line in lines[at + 1:]:
+        if line[0] != "mark":
+            break
+        told.append(line[1])
+    return told
+
+
+def agree(lines, twins, at):
+    line, twin = lines[at], twins[at]
+    if line[0] != twin[0]:
+        return False
+    if line[0] in ("mark", "call", "tail"):
+        return True
+    if line[0] in ("jump", "if", "unless"):
+        return sites(lines)[line[1]] == sites(twins)[twin[1]]
+    return line[1] == twin[1] if line[0] == "addr" else line == twin
+
+
+def shown(functions):
+    held = holds(functions)
+    pairs = [(held[line[1]], held[line[2]]) for _, line in places(functions) if line[0] == "same"]
+    return tuple(sorted({name for one, other in pairs if one and other for name in one + other}))
+
+
+def one_to_go(functions, f, g, told, seen):
+    """Whether two functions may be one, if those that told says may."""
+    lines, twins = functions[f], functions[g]
+    if len(lines) != len(twins):
+        return False
+    for at, line in enumerate(lines):
+        if not agree(lines, twins, at):
+            return False
+        if line[0] in ("call", "tail") and not told(line[1], twins[at][1]):
+            return False
+        if line[0] == "addr" and line[2] != twins[at][2]:
+            if not told(line[2], twins[at][2]) or line[2] in seen or twins[at][2] in seen:
+                return False
+    return True
+
+
+def classes(functions):
+    """Begins with all pairs, and strikes out those that may not be one."""
+    pairs = {(f, g) for f in functions for g in functions}
+    seen = shown(functions)
+    while True:
+        left = {(f, g) for f, g in pairs if one_to_go(functions, f, g, lambda a, b: (a, b) in pairs, seen)}
+        if left == pairs:
+            return tuple(sorted({tuple(sorted(g for h, g in pairs if h == f)) for f in functions}))
+        pairs = left
+
+
+def is_unlike(functions, f, g, row):
+    """For a tuple of entries that are tuples of three."""
+    seen = shown(functions)
+    for number, (a, b, at) in enumerate(row):
+        if (a, b) != (f, g):
+            return False
+        last = number == len(row) - 1
+        if at is None:
+            return last and len(functions[f]) != len(functions[g])
+        if not 0 <= at < min(len(functions[f]), len(functions[g])):
+            return False
+        line, twin = functions[f][at], functions[g][at]
+        if last:
+            apart = line[0] == "addr" and line[2] != twin[-1] and (line[2] in seen or twin[-1] in seen)
+            return not agree(functions[f], functions[g], at) or apart
+        if not agree(functions[f], functions[g], at) or line[0] not in ("call", "tail", "addr"):
+            return False
+        f, g = line[-1], twin[-1]
+    return False
+
+
+def folded(functions):
+    made, seen = {}, shown(functions)
+    parts = {name: part for part in classes(functions) for name in part}
+    heads = {}
+    for name, part in parts.items():
+        heads[name] = "main" if "main" in part else min([one for one in part if one in seen] or part)
+    for name, lines in functions.items():
+        row = []
+        for line in lines:
+            if line[0] in ("call", "tail"):
+                line = (line[0], heads[line[1]])
+            elif line[0] == "addr" and replaced(line[2], heads, parts, seen):
+                line = ("addr", line[1], heads[line[2]])
+            row.append(line)
+        if name in seen and name != heads[name] and not replaced(name, heads, parts, seen) and size(lines) > 2:
+            row = [("tail", heads[name])]
+        made[name] = row
+    return swept(made)
+
+
+def replaced(name, heads, parts, seen):
+    """Whether addr lines name the representative instead."""
+    if name not in seen:
+        return True
+    return heads[name] not in seen and name == min(one for one in parts[name] if one in seen)
+
+
+def size(lines):
+    told = {"mark": 0, "addr": 3, "jump": 2, "if": 2, "unless": 2, "call": 2, "tail": 2}
+    return sum(3 if line[0] == "num" and not -8 <= line[2] <= 7 else told.get(line[0], 1) for line in lines)

@@ -1,6 +1,8 @@
 """What several tests use: values of any kind, and small programs."""
 
 from foldlines.programs import BareProgram, Program
+from foldlines.runs import run
+from foldlines.sweeping import is_swept
 
 DEEP = [[[[[[[["main"]]]]]]]]
 
@@ -61,3 +63,31 @@ def stops(many):
 def names_of(many):
     """So many names, main among them."""
     return ["main"] + ["f" + chr(ord("a") + at) for at in range(many - 1)]
+
+
+def facts():
+    return Program.read("function f\nnum 2 7\nback\nfunction main\nnum 0 100\ncall f\nnum 1 100\nout 1\nstop")
+
+
+def not_swept():
+    """Programs in each of which something is left that swept takes away."""
+    stop, back = ("stop",), [("back",)]
+    return [Program(functions) for functions in (
+        {"main": [stop], "f": back}, {"main": [stop, stop]}, {"main": [("mark", "a"), stop]},
+        {"main": [stop, ("call", "f")], "f": back}, {"main": [("in", 0), ("mark", "a"), stop, ("if", "a")]})]
+
+
+def run_alike(one, other, inputs, most):
+    """Whether two runs have the same outputs and the same end, as far as so many steps tell, or a few times more."""
+    left, right = run(one, inputs, most), run(other, inputs, most)
+    if left[1] is None or right[1] is None:
+        left, right = run(one, inputs, 20 * most), run(other, inputs, 20 * most)
+    many = min(len(left[0]), len(right[0]))
+    if left[1] is None and right[1] is None:
+        return left[0][:many] == right[0][:many]
+    return left[:2] == right[:2]
+
+
+def is_right(program):
+    """Whether a program that a pass made is one that can be made by itself, and swept."""
+    return type(program) is Program and Program(program.functions) == program and is_swept(program)

@@ -3,12 +3,15 @@
 import unittest
 
 from foldlines.errors import Untidy
+from foldlines.facts import idle, known, wanted, writes
 from foldlines.flow import own, rows
+from foldlines.folds import classes, folded, is_unlike
 from foldlines.holders import shown
+from foldlines.passes import cheaper, dropped
 from foldlines.programs import BareProgram, Program
 from foldlines.runs import run
 from foldlines.sweeping import is_swept
-from samples import rings, seen, twice
+from samples import facts, rings, seen, twice
 
 
 class ExamplesTest(unittest.TestCase):
@@ -27,9 +30,23 @@ class ExamplesTest(unittest.TestCase):
     def test_shown(self):
         self.assertEqual((shown(seen()), shown(rings())), (("a", "b"), ()))
 
+    def test_facts(self):
+        told = [writes(facts()), known(facts())[("main", 3)], wanted(facts(), ("main", 3)), idle(facts())]
+        self.assertEqual(told, [{"f": (2,), "main": (0, 1, 2)}, {0: 100, 1: 100}, (1,), (("f", 0), ("main", 0))])
+
+    def test_passes(self):
+        told = [cheaper(facts())["main"][2], dropped(facts())["main"]]
+        self.assertEqual(told, [("copy", 1, 0), (("call", "f"), ("num", 1, 100), ("out", 1), ("stop",))])
+
+    def test_folds(self):
+        told = [classes(rings()), folded(rings()).names, folded(rings()).size]
+        self.assertEqual(told, [(("a", "b"), ("main",)), ("a", "main"), 11])
+        told = [shown(seen()), folded(seen())["b"], folded(seen()).size]
+        self.assertEqual(told, [("a", "b"), (("tail", "a"),), 14])
+        self.assertIs(is_unlike(seen(), "a", "main", (("a", "main", None),)), True)
+
     def test_programs_of_the_document(self):
-        facts = Program.read("function f\nnum 2 7\nback\nfunction main\nnum 0 100\ncall f\nnum 1 100\nout 1\nstop")
-        self.assertEqual(run(facts, [], 99), ((100,), "stop", 7))
+        self.assertEqual(run(facts(), [], 99), ((100,), "stop", 7))
         text = (("in", 0), ("add", 0, 0, 0), ("mul", 1, 0, 0), ("out", 1))
         again = Program({"main": text + text + text + (("stop",),)})
         self.assertEqual(run(again, [1, 2, 3], 99)[0], (4, 16, 36))

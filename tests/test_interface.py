@@ -5,7 +5,7 @@ import inspect
 import pathlib
 import unittest
 
-from foldlines import errors, flow, holders, programs, runs, sweeping
+from foldlines import errors, facts, flow, folds, holders, passes, runs, straightening, sweeping
 from foldlines.errors import NotSwept
 from foldlines.programs import BareProgram, Program
 from foldlines.runs import Run, run
@@ -17,6 +17,13 @@ FUNCTIONS = {
     runs: {"run": ["program", "inputs", "most"]},
     sweeping: {"swept": ["program"], "is_swept": ["program"]},
     holders: {"holds": ["program"], "goals": ["program", "place"], "shown": ["program"]},
+    facts: {"writes": ["program"], "known": ["program"], "is_known": ["program", "value"],
+            "wanted": ["program", "place"], "idle": ["program"], "is_idle": ["program", "value"],
+            "link_wanted": ["program", "name"]},
+    straightening: {"straightened": ["program"]},
+    passes: {"cheaper": ["program", "table"], "dropped": ["program", "places"]},
+    folds: {"classes": ["program"], "are_closed": ["program", "value"], "unlike": ["program", "f", "g"],
+            "is_unlike": ["program", "f", "g", "value"], "folded": ["program"]},
 }
 METHODS = {
     Program: {"__init__": ["self", "functions"], "size_of": ["self", "name"], "places": ["self"],
@@ -74,8 +81,10 @@ class InterfaceTest(unittest.TestCase):
                 with self.assertRaises(AttributeError):
                     setattr(thing, name, None)
 
-    def test_inputs_need_not_be_given(self):
+    def test_what_need_not_be_given(self):
         self.assertEqual(inspect.signature(Run).parameters["inputs"].default, ())
+        for action, name in ((passes.cheaper, "table"), (passes.dropped, "places")):
+            self.assertIs(inspect.signature(action).parameters[name].default, None)
 
     def test_classes_stand_in_their_files(self):
         self.assertEqual((Program.__module__, BareProgram.__module__), ("foldlines.programs", "foldlines.programs"))
@@ -94,7 +103,8 @@ class InterfaceTest(unittest.TestCase):
 
 class ConventionsTest(unittest.TestCase):
     def test_equal_calls_return_equal_results(self):
-        for action in (flow.live, holders.holds, holders.shown, sweeping.swept):
+        for action in (flow.live, holders.holds, holders.shown, sweeping.swept, facts.writes, facts.known, facts.idle,
+                       straightening.straightened, passes.cheaper, passes.dropped, folds.classes, folds.folded):
             self.assertEqual(action(twice()), action(twice()))
         self.assertEqual(run(twice(), [], 99), run(twice(), [], 99))
 

@@ -4,56 +4,13 @@ import random
 import unittest
 
 import reference
+from chances import NAMES, any_lines, tidy_lines, tidy_program
 from foldlines.errors import Untidy
 from foldlines.flow import own, reached, rows, ways
 from foldlines.holders import holds
 from foldlines.programs import BareProgram, Program
 from foldlines.runs import Run, run
 from foldlines.sweeping import is_swept, swept
-
-NAMES = ("main", "a", "b", "end")
-LABELS = ("l", "m", "n")
-
-
-def any_line(chance, bare):
-    """A line that is no mark; some words come more often, so that there are tidy functions among the random ones."""
-    words = ["num", "copy", "add", "sub", "mul", "addr", "same", "less", "in", "out", "if", "unless", "jump", "call",
-             "callr", "tail", "back", "stop"]
-    words += [] if bare else ["push", "pop", "pushlink", "poplink", "read", "write"] * 2
-    word = chance.choice(words)
-
-    def reg():
-        return chance.randrange(3)
-
-    parts = {
-        "num": (reg(), chance.choice((0, 1, -1, 7, 8, 2 ** 31 - 1, -(2 ** 31)))), "addr": (reg(), chance.choice(NAMES)),
-        "in": (reg(),), "out": (reg(),), "callr": (reg(),), "push": (reg(),), "pop": (reg(),), "back": (), "stop": (),
-        "read": (reg(), chance.randrange(2)), "write": (chance.randrange(2), reg()),
-        "if": (chance.choice(LABELS),), "unless": (chance.choice(LABELS),), "jump": (chance.choice(LABELS),),
-        "call": (chance.choice(NAMES),), "tail": (chance.choice(NAMES),),
-    }
-    if word in ("pushlink", "poplink"):
-        return (word[:-4], "link")
-    return (word, *parts.get(word, (reg(), reg(), reg())[:2 if word in ("copy", "same", "less") else 3]))
-
-
-def any_lines(chance, bare):
-    lines = [any_line(chance, bare) for _ in range(chance.randrange(1, 9))]
-    for label in LABELS:
-        lines.insert(chance.randrange(len(lines) + 1), ("mark", label))
-    return lines + [chance.choice((("back",), ("stop",), ("tail", "a"), ("jump", "l"), ("out", 0)))]
-
-
-def tidy_lines(chance, bare):
-    while True:
-        lines = any_lines(chance, bare)
-        if reference.is_tidy(lines, bare):
-            return lines
-
-
-def tidy_program(chance, bare):
-    return {name: tidy_lines(chance, bare) for name in NAMES}
-
 
 class RandomTest(unittest.TestCase):
     def test_tidiness(self):

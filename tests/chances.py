@@ -1,0 +1,171 @@
+"""Random programs, the same ones for the same numbers: shapeless ones, and ones that are built of blocks."""
+
+import random
+
+import reference
+from foldlines.programs import Program
+from foldlines.sweeping import swept
+
+NAMES = ("main", "a", "b", "end")
+LABELS = ("l", "m", "n")
+
+
+def any_line(chance, bare):
+    """A line that is no mark; some words come more often, so that there are tidy functions among the random ones."""
+    words = ["num", "copy", "add", "sub", "mul", "addr", "same", "less", "in", "out", "if", "unless", "jump", "call",
+             "callr", "tail", "back", "stop"]
+    words += [] if bare else ["push", "pop", "pushlink", "poplink", "read", "write"] * 2
+    word = chance.choice(words)
+
+    def reg():
+        return chance.randrange(3)
+
+    parts = {
+        "num": (reg(), chance.choice((0, 1, -1, 7, 8, 2 ** 31 - 1, -(2 ** 31)))), "addr": (reg(), chance.choice(NAMES)),
+        "in": (reg(),), "out": (reg(),), "callr": (reg(),), "push": (reg(),), "pop": (reg(),), "back": (), "stop": (),
+        "read": (reg(), chance.randrange(2)), "write": (chance.randrange(2), reg()),
+        "if": (chance.choice(LABELS),), "unless": (chance.choice(LABELS),), "jump": (chance.choice(LABELS),),
+        "call": (chance.choice(NAMES),), "tail": (chance.choice(NAMES),),
+    }
+    if word in ("pushlink", "poplink"):
+        return (word[:-4], "link")
+    return (word, *parts.get(word, (reg(), reg(), reg())[:2 if word in ("copy", "same", "less") else 3]))
+
+
+def any_lines(chance, bare):
+    lines = [any_line(chance, bare) for _ in range(chance.randrange(1, 9))]
+    for label in LABELS:
+        lines.insert(chance.randrange(len(lines) + 1), ("mark", label))
+    return lines + [chance.choice((("back",), ("stop",), ("tail", "a"), ("jump", "l"), ("out", 0)))]
+
+
+def tidy_lines(chance, bare):
+    while True:
+        lines = any_lines(chance, bare)
+        if reference.is_tidy(lines, bare):
+            return lines
+
+
+def tidy_program(chance, bare):
+    return {name: tidy_lines(chance, bare) for name in NAMES}
+
+
+NUMBERS = (0, 5, 5, 100, 100, -9, 2 ** 31 - 1)
+
+
+class Builder:
+    """Builds tidy functions of blocks, in which runs come far. Registers 4 and 5 always have 0."""
+
+    def __init__(self, chance, names):
+        self.chance, self.names, self.labels = chance, names, 0
+
+    def label(self):
+        self.labels += 1
+        return "l" + chr(96 + self.labels)
+
+    def reg(self):
+        return self.chance.randrange(4)
+
+    def function(self, name):
+        self.labels = 0
+        calls = self.chance.random() < 0.6
+        if name == "main" and self.chance.random() < 0.7:
+            return [*self.blocks(3, 0, True), ("stop",)]
+        inner = self.blocks(self.chance.randrange(1, 4), 0, calls)
+        if calls:
+            inner = [("push", "link"), *inner, ("pop", "link")]
+        return [*inner, self.chance.choice((("back",), ("back",), ("tail", self.chance.choice(self.names))))]
+
+    def blocks(self, many, entries, calls):
+        return [line for _ in range(many) for line in self.block(entries, calls)]
+
+    def block(self, entries, calls):
+        word = self.chance.choice(("ops", "ops", "ops", "numbers", "numbers", "stack", "branch", "both", "loop", "over",
+                                   "call", "callr"))
+        if word == "call" and calls:
+            return [("call", self.chance.choice(self.names))]
+        if word == "callr" and calls:
+            reg = self.reg()
+            return [("addr", reg, self.chance.choice(self.names)), *self.compared(), ("callr", reg)]
+        if word == "numbers":
+            number = self.chance.choice(NUMBERS)
+            return [("num", self.reg(), number), self.op(entries), ("num", self.reg(), number)]
+        if self.labels > 6 or word in ("ops", "call", "callr"):
+            return [self.op(entries) for _ in range(self.chance.randrange(1, 4))]
+        if word == "stack":
+            return [("push", self.reg()), *self.blocks(2, entries + 1, calls), ("pop", self.reg())]
+        inner = self.blocks(self.chance.randrange(3), entries, calls)
+        first, second = self.label(), self.label()
+        if word == "branch":
+            return [*self.test(), (self.chance.choice(("if", "unless")), first), *inner, ("mark", first)]
+        if word == "both":
+            other = self.blocks(self.chance.randrange(2), entries, calls)
+            return [*self.test(), ("if", first), *inner, ("jump", second), ("mark", first), *other, ("mark", second)]
+        if word == "loop":
+            return [("mark", first), *inner, ("in", 3), ("same", 3, 4), ("unless", first)]
+        return [*self.test(), ("unless", first), ("jump", second), ("mark", first), *inner, ("mark", second)]
+
+    def test(self):
+        return [] if self.chance.random() < 0.2 else [(self.chance.choice(("same", "less")), self.reg(), 4)]
+
+    def compared(self):
+        return [("same", self.reg(), self.reg())] if self.chance.random() < 0.4 else []
+
+    def op(self, entries):
+        word = self.chance.choice(("num", "num", "num", "copy", "add", "sub", "mul", "addr", "same", "less", "in", "out",
+                                   "out", "read", "write"))
+        reg = self.reg()
+        if word == "num":
+            return ("num", reg, self.chance.choice(NUMBERS))
+        if word == "addr":
+            return ("addr", self.chance.choice((2, 3)), self.chance.choice(self.names))
+        if word in ("copy", "same", "less"):
+            return (word, reg, self.chance.choice((self.reg(), 4)))
+        if word in ("in", "out"):
+            return (word, reg)
+        if word in ("read", "write") and entries:
+            k = self.chance.randrange(entries)
+            return ("read", reg, k) if word == "read" else ("write", k, reg)
+        return (self.chance.choice(("add", "sub", "mul")), reg, self.reg(), self.chance.choice((self.reg(), 4)))
+
+
+def twin(chance, lines, group):
+    """Like lines: other labels, and others of the group of functions that may stand for one another."""
+    made = []
+    for line in lines:
+        if line[0] in ("mark", "jump", "if", "unless"):
+            line = (line[0], "t" + line[1])
+        elif line[0] in ("call", "tail", "addr") and line[-1] in group and chance.random() < 0.7:
+            line = (*line[:-1], chance.choice(group))
+        made.append(line)
+    return made
+
+
+def built_program(chance):
+    """A swept program of functions that are built of blocks, with groups of functions that are like or nearly so."""
+    while True:
+        names = ["main", "a", "b", "c"][:chance.randrange(1, 5)]
+        builder = Builder(chance, names)
+        functions = {name: builder.function(name) for name in names}
+        for name in names[:1 + chance.randrange(len(names))]:
+            group = [name, *(name[0] + "x" * many for many in range(1, chance.randrange(1, 4)))]
+            for other in group[1:]:
+                functions[other] = twin(chance, functions[name], group)
+                if chance.random() < 0.15:
+                    at = chance.randrange(len(functions[other]))
+                    functions[other].insert(at, ("out", builder.reg()))
+            callers = [made for made in functions if made in names]
+            for other in group[1:]:
+                caller = functions[chance.choice(callers)]
+                reg = chance.choice((1, 2, 3))
+                caller.insert(0, ("addr", reg, other))
+                if chance.random() < 0.4:
+                    caller.insert(1, ("same", reg, chance.choice((2, 3))))
+        if all(len(lines) <= 60 for lines in functions.values()) and sum(map(len, functions.values())) <= 240:
+            return swept(Program(functions))
+
+
+def built_programs(number, many):
+    """So many built programs, the same ones for the same number."""
+    chance = random.Random(number)
+    return [built_program(chance) for _ in range(many)]
