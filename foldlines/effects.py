@@ -2,7 +2,8 @@
 
 from foldlines.limits import REGISTERS
 
-FLAG = 1 << REGISTERS
+# The registers have the bits from 1 to 32.
+FLAG = 64
 
 PURE_WORDS = ("num", "copy", "addr", "read", "same")
 WRITING_WORDS = ("num", "copy", "add", "sub", "mul", "addr", "in", "pop", "read")

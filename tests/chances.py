@@ -169,3 +169,77 @@ def built_programs(number, many):
     """So many built programs, the same ones for the same number."""
     chance = random.Random(number)
     return [built_program(chance) for _ in range(many)]
+
+
+def variant(chance, program):
+    """A swept program in which a function is there twice, each time for some of its callers; at times a line is other."""
+    functions = {name: list(lines) for name, lines in program.functions.items()}
+    for number in range(chance.randrange(1, 3)):
+        name = chance.choice(sorted(functions))
+        functions["v" + "x" * number] = list(functions[name])
+        for lines in functions.values():
+            for at, line in enumerate(lines):
+                if line[0] in ("call", "tail", "addr") and line[-1] == name and chance.random() < 0.5:
+                    lines[at] = (*line[:-1], "v" + "x" * number)
+    if chance.random() < 0.3:
+        lines = functions[chance.choice(sorted(functions))]
+        at = chance.randrange(len(lines))
+        if lines[at][0] in ("num", "copy", "add", "in", "out", "same", "addr"):
+            lines[at] = ("num", chance.randrange(4), 8)
+    names = dict(zip(sorted(functions), chance.sample(["main"] + ["n" + chr(97 + at) for at in range(25)], len(functions))))
+    if chance.random() < 0.5 and "main" not in names.values():
+        names["main"] = "main"
+        functions = {names[name]: [(*line[:-1], names[line[-1]]) if line[0] in ("call", "tail", "addr") else line
+                                   for line in lines] for name, lines in functions.items()}
+    return swept(Program(functions)) if len(functions) <= 24 and max(map(len, functions.values())) <= 60 and sum(
+        map(len, functions.values())) <= 240 else program
+
+
+def chunk(chance, names):
+    """A few lines that may be called; some keep entries, some call, some end."""
+    def op():
+        word = chance.choice(("num", "add", "in", "out", "out", "copy"))
+        parts = {"num": (chance.randrange(4), chance.choice(NUMBERS)), "copy": (chance.randrange(4), chance.randrange(4)),
+                 "add": tuple(chance.randrange(4) for _ in range(3))}
+        return (word, *parts.get(word, (chance.randrange(4),)))
+
+    lines = [op() for _ in range(chance.randrange(1, 5))]
+    kind = chance.randrange(6)
+    if kind == 0:
+        lines = [("push", 0), *lines, ("read", 1, 0), *[op() for _ in range(chance.randrange(2))], ("pop", 2)]
+    if kind == 1:
+        lines.insert(chance.randrange(len(lines) + 1), ("call", chance.choice(names)))
+    if kind == 2:
+        lines *= 2
+    return lines
+
+
+def chunked_program(chance):
+    """A swept program in which the same lines come again and again, with the link own and lost, and at ends."""
+    names = ["main", "a", "b", "c"][:chance.randrange(1, 5)]
+    chunks = [chunk(chance, names) for _ in range(chance.randrange(1, 4))]
+    end = chance.choice(chunks[:1] + [[("out", 0)]])
+    functions = {}
+    for name in names:
+        inner = []
+        for _ in range(chance.randrange(1, 6)):
+            inner += chance.choice(chunks)
+            if chance.random() < 0.3:
+                inner += [("same", 0, 1), ("if", "l"), ("out", 3), ("mark", "l")] if ("mark", "l") not in inner else [("in", 1)]
+        if any(line[0] == "call" for line in inner):
+            inner = [("push", "link"), *inner, ("pop", "link")]
+        if name == "main":
+            inner += [line for other in names for line in (("call", other), *chance.choice(chunks))] + [("stop",)]
+        else:
+            calm = [line for line in end if line[0] != "call"]
+            inner += calm + [chance.choice((("back",), ("stop",), ("tail", names[-1])))]
+        functions[name] = inner
+    if max(map(len, functions.values())) > 60:
+        return chunked_program(chance)
+    return swept(Program(functions))
+
+
+def chunked_programs(number, many):
+    """So many chunked programs, the same ones for the same number."""
+    chance = random.Random(number)
+    return [chunked_program(chance) for _ in range(many)]

@@ -1,5 +1,9 @@
 """A second, plain reading of the document, that random programs are compared with."""
 
+import functools
+import itertools
+
+
 def sites(lines):
     return {line[1]: at for at, line in enumerate(lines) if line[0] == "mark"}
 
@@ -322,6 +326,7 @@ def is_idle(functions, gone):
     return not any(written(functions[name][at]) & after[name, at] for name, at in gone)
 
 
+@functools.cache
 def link_wanted(lines):
     """Goes along all ways from each line to see what comes first."""
     told = []
@@ -481,3 +486,210 @@ def replaced(name, heads, parts, seen):
 def size(lines):
     told = {"mark": 0, "addr": 3, "jump": 2, "if": 2, "unless": 2, "call": 2, "tail": 2}
     return sum(3 if line[0] == "num" and not -8 <= line[2] <= 7 else told.get(line[0], 1) for line in lines)
+
+
+def is_alike(one, other):
+    """Gathers all pairs and all address pairs, then looks at each two of them."""
+    pairs, todo = set(), [("main", "main")]
+    while todo:
+        f, g = todo.pop()
+        if (f, g) in pairs:
+            continue
+        pairs.add((f, g))
+        lines, twins = one[f], other[g]
+        if len(lines) != len(twins) or not all(agree(lines, twins, at) for at in range(len(lines))):
+            return False
+        todo += [(line[-1], twin[-1]) for line, twin in zip(lines, twins) if line[0] in ("call", "tail", "addr")]
+    told = {(line[2], twin[2]) for f, g in pairs for line, twin in zip(one[f], other[g]) if line[0] == "addr"}
+    seen, others = shown(one), shown(other)
+    for f, g in told:
+        for h, i in told:
+            if (f == h) != (g == i) and (f in seen or h in seen or g in others or i in others):
+                return False
+    return True
+
+
+def is_alike_row(one, other, row):
+    """Whether a tuple of entries is one from (main, main) on; its last entry need not agree, or may be at None."""
+    f, g = "main", "main"
+    for number, (a, b, at) in enumerate(row):
+        if (a, b) != (f, g) or at is not None and not 0 <= at < min(len(one[f]), len(other[g])):
+            return False
+        if number == len(row) - 1:
+            return True
+        if at is None or not agree(one[f], other[g], at) or one[f][at][0] not in ("call", "tail", "addr"):
+            return False
+        f, g = one[f][at][-1], other[g][at][-1]
+    return False
+
+
+def is_parted(one, other, paper):
+    """For papers of the right forms."""
+    if not all(is_alike_row(one, other, row) for row in paper[1:]):
+        return False
+    ends = [row[-1] for row in paper[1:]]
+    if paper[0] == "lines":
+        f, g, at = ends[0]
+        return len(one[f]) != len(other[g]) if at is None else not agree(one[f], other[g], at)
+    if any(at is None or not agree(one[f], other[g], at) or one[f][at][0] != "addr" for f, g, at in ends):
+        return False
+    (f, g), (h, i) = [(one[f][at][2], other[g][at][2]) for f, g, at in ends]
+    some = f in shown(one) or h in shown(one) or g in shown(other) or i in shown(other)
+    return (f == h) != (g == i) and some
+
+
+def words():
+    """All words in word order."""
+    for many in range(1, 9):
+        for letters in itertools.product("abcdefghijklmnopqrstuvwxyz", repeat=many):
+            yield "".join(letters)
+
+
+def reason(lines, first, many):
+    text = lines[first:first + many]
+    if any(line[0] in ("mark", "jump", "if", "unless") for line in text):
+        return "jump"
+    if any(line[0] in ("back", "tail", "stop") for line in text[:-1]):
+        return "end"
+    if stack_reason(text):
+        return "stack"
+    if text[-1] == ("stop",):
+        if any(at == first and (row or not own) for at, row, own in states(lines)):
+            return "frame"
+    return None
+
+
+def stack_reason(text):
+    row = []
+    for line in text:
+        if line in (("push", "link"), ("pop", "link")):
+            return True
+        if line[0] == "push":
+            row.append(line)
+        elif line[0] == "pop":
+            if not row:
+                return True
+            row.pop()
+        elif line[0] == "read" and line[2] >= len(row) or line[0] == "write" and line[1] >= len(row):
+            return True
+    return bool(row) and text[-1] != ("stop",)
+
+
+def cover(text):
+    if text[-1][0] in ("back", "tail", "stop"):
+        return tuple(text)
+    if any(line[0] in ("call", "callr") for line in text):
+        return (("push", "link"), *text, ("pop", "link"), ("back",))
+    return (*text, ("back",))
+
+
+def text_sites(functions, text):
+    told = []
+    for (name, first), _ in places(functions):
+        lines = functions[name]
+        if lines[first:first + len(text)] == tuple(text) and reason(lines, first, len(text)) is None:
+            told.append(((name, first), size(text) - (4 if keeps(lines, first + len(text), text) else 2)))
+    return told
+
+
+def keeps(lines, behind, text):
+    return text[-1][0] not in ("back", "tail", "stop") and behind in link_wanted(lines)
+
+
+def best_sites(sites, many):
+    """Tries all sets of a few sites; of more, what is best ahead of each site, one after the other."""
+    sites = [site for site in sites if site[1] > 0]
+    if len(sites) < 9:
+        found = []
+        for number in range(len(sites) + 1):
+            for chosen in itertools.combinations(sites, number):
+                if all(a[0] != b[0] or abs(a[1] - b[1]) >= many for (a, _), (b, _) in itertools.combinations(chosen, 2)):
+                    found.append((-sum(saved for _, saved in chosen), number, tuple(place for place, _ in chosen)))
+        return min(found)[2]
+    ahead = [(0, 0, ())]
+    for at, (place, saved) in enumerate(sites):
+        free = sum(other[0] != place[0] or other[1] + many <= place[1] for other, _ in sites[:at])
+        before = ahead[free]
+        ahead.append(min(ahead[-1], (before[0] - saved, before[1] + 1, (*before[2], place))))
+    return ahead[-1][2]
+
+
+def gain(functions, text):
+    sites = text_sites(functions, text)
+    best = best_sites(sites, len(text))
+    return sum(saved for place, saved in sites if place in best) - size(cover(text)), best
+
+
+def is_gain(functions, text, value):
+    """For a tuple of an integer, a tuple of places, and a dict from places to integers."""
+    number, chosen, prices = value
+    sites = dict(text_sites(functions, text))
+    many = len(text)
+    if sorted(set(chosen)) != list(chosen) or any(place not in sites for place in chosen):
+        return False
+    if any(a[0] == b[0] and abs(a[1] - b[1]) < many for a, b in itertools.combinations(chosen, 2)):
+        return False
+    if any(price <= 0 for price in prices.values()):
+        return False
+    if any(sum(prices.get((name, first + at), 0) for at in range(many)) < saved for (name, first), saved in sites.items()):
+        return False
+    total = sum(sites[place] for place in chosen)
+    return sum(prices.values()) == total and number == total - size(cover(text))
+
+
+def best(functions):
+    texts = {lines[first:last] for lines in functions.values() for last in range(len(lines) + 1) for first in range(last)
+             if reason(lines, first, last - first) is None}
+    found = []
+    for text in texts:
+        number, chosen = gain(functions, text)
+        if number > 0:
+            found.append((-number, -len(text), chosen[0], text))
+    return (min(found)[3], -min(found)[0]) if found else None
+
+
+def outlined(functions, name, text, chosen):
+    made = {name: cover(text)}
+    for caller, lines in functions.items():
+        row, at = [], 0
+        while at < len(lines):
+            if (caller, at) not in chosen:
+                row.append(lines[at])
+                at += 1
+                continue
+            at += len(text)
+            call = [("tail" if text[-1][0] in ("back", "tail", "stop") else "call", name)]
+            row += [("push", "link"), *call, ("pop", "link")] if keeps(lines, at, text) else call
+        made[caller] = tuple(row)
+    return made
+
+
+def is_straight(functions, name):
+    lines = functions[name]
+    if name == "main" or any(line[0] == "addr" and line[2] == name for _, line in places(functions)):
+        return False
+    if any(line[-1] == name and line[0] in ("call", "tail") for line in lines):
+        return False
+    if any(line[0] in ("mark", "jump", "if", "unless") for line in lines):
+        return False
+    if any(line[0] in ("back", "tail", "stop") for line in lines[:-1]):
+        return False
+    links = [at for at, line in enumerate(lines) if line in (("push", "link"), ("pop", "link"))]
+    return not links or links == [0, len(lines) - 2] and lines[0][0] == "push" and lines[-2][0] == "pop"
+
+
+def inlined(functions, name):
+    made = {}
+    for caller, lines in functions.items():
+        row = []
+        for line in lines:
+            if line == ("tail", name):
+                row += functions[name]
+            elif line == ("call", name):
+                for other in functions[name]:
+                    if other not in (("push", "link"), ("pop", "link"), ("back",)):
+                        row.append(("call", other[1]) if other[0] == "tail" else other)
+            else:
+                row.append(line)
+        made[caller] = row
+    return swept(made)

@@ -1,5 +1,7 @@
 """What several tests use: values of any kind, and small programs."""
 
+import reference
+from foldlines.lines import is_line
 from foldlines.programs import BareProgram, Program
 from foldlines.runs import run
 from foldlines.sweeping import is_swept
@@ -89,5 +91,20 @@ def run_alike(one, other, inputs, most):
 
 
 def is_right(program):
-    """Whether a program that a pass made is one that can be made by itself, and swept."""
-    return type(program) is Program and Program(program.functions) == program and is_swept(program)
+    """Whether a program that a pass made is right line by line, tidy and swept, however many lines it has."""
+    return type(program) is Program and is_swept(program) and all(
+        are_right_lines(program[name], program.names) and reference.is_tidy(program[name], False) for name in program.names)
+
+
+def are_right_lines(lines, names):
+    """Whether lines have their forms, and name only labels and functions that are there, with one mark for each label."""
+    marks = [line[1] for line in lines if line[0] == "mark"]
+    labels = [line[1] for line in lines if line[0] in ("jump", "if", "unless")]
+    named = [line[-1] for line in lines if line[0] in ("addr", "call", "tail")]
+    return type(lines) is tuple and all(map(is_line, lines)) and len(set(marks)) == len(marks) and set(labels) <= set(
+        marks) and set(named) <= set(names)
+
+
+def again():
+    text = [("in", 0), ("add", 0, 0, 0), ("mul", 1, 0, 0), ("out", 1)]
+    return Program({"main": [*text, *text, *text, ("stop",)]})

@@ -6,12 +6,16 @@ from foldlines.errors import Untidy
 from foldlines.facts import idle, known, wanted, writes
 from foldlines.flow import own, rows
 from foldlines.folds import classes, folded, is_unlike
+from foldlines.gains import best, cover, gain
 from foldlines.holders import shown
+from foldlines.likeness import alike, core
+from foldlines.outlining import inlined, outlined
 from foldlines.passes import cheaper, dropped
 from foldlines.programs import BareProgram, Program
 from foldlines.runs import run
+from foldlines.stretches import reason
 from foldlines.sweeping import is_swept
-from samples import facts, rings, seen, twice
+from samples import again, facts, rings, seen, twice
 
 
 class ExamplesTest(unittest.TestCase):
@@ -45,11 +49,23 @@ class ExamplesTest(unittest.TestCase):
         self.assertEqual(told, [("a", "b"), (("tail", "a"),), 14])
         self.assertIs(is_unlike(seen(), "a", "main", (("a", "main", None),)), True)
 
+    def test_likeness(self):
+        told = [alike(rings(), folded(rings())), core(rings()).names, core(seen()).names]
+        self.assertEqual(told, [None, ("a", "main"), ("a", "b", "main")])
+
+    def test_lines_that_come_again(self):
+        text = (("in", 0), ("add", 0, 0, 0), ("mul", 1, 0, 0), ("out", 1))
+        self.assertEqual(again(), Program({"main": text + text + text + (("stop",),)}))
+        told = [best(again()), gain(again(), text)[:2], outlined(again(), "g", text)["main"]]
+        self.assertEqual(told, [
+            ((("in", 0), ("add", 0, 0, 0), ("mul", 1, 0, 0), ("out", 1)), 1),
+            (1, (("main", 0), ("main", 4), ("main", 8))), (("call", "g"), ("call", "g"), ("call", "g"), ("stop",))])
+        told = [reason(again(), "main", 10, 3), inlined(outlined(again(), "g", text), "g") == again(), cover(text)[-1]]
+        self.assertEqual(told, [None, True, ("back",)])
+
     def test_programs_of_the_document(self):
         self.assertEqual(run(facts(), [], 99), ((100,), "stop", 7))
-        text = (("in", 0), ("add", 0, 0, 0), ("mul", 1, 0, 0), ("out", 1))
-        again = Program({"main": text + text + text + (("stop",),)})
-        self.assertEqual(run(again, [1, 2, 3], 99)[0], (4, 16, 36))
+        self.assertEqual(run(again(), [1, 2, 3], 99)[0], (4, 16, 36))
         ends = Program.of(("in", 0), ("less", 0, 1), ("if", "a"), ("out", 0), ("out", 1), ("out", 2), ("stop",),
                           ("mark", "a"), ("in", 0), ("out", 1), ("out", 2), ("stop",))
         self.assertEqual((ends.size, is_swept(ends)), (12, True))

@@ -5,7 +5,8 @@ import inspect
 import pathlib
 import unittest
 
-from foldlines import errors, facts, flow, folds, holders, passes, runs, straightening, sweeping
+from foldlines import errors, facts, flow, folds, gains, holders, likeness, outlining, passes, runs, straightening
+from foldlines import stretches, sweeping
 from foldlines.errors import NotSwept
 from foldlines.programs import BareProgram, Program
 from foldlines.runs import Run, run
@@ -24,6 +25,12 @@ FUNCTIONS = {
     passes: {"cheaper": ["program", "table"], "dropped": ["program", "places"]},
     folds: {"classes": ["program"], "are_closed": ["program", "value"], "unlike": ["program", "f", "g"],
             "is_unlike": ["program", "f", "g", "value"], "folded": ["program"]},
+    likeness: {"alike": ["one", "other"], "is_parted": ["one", "other", "value"], "core": ["program"]},
+    stretches: {"reason": ["program", "name", "first", "many"]},
+    gains: {"sites": ["program", "lines"], "cover": ["lines"], "best": ["program"], "gain": ["program", "lines"],
+            "is_gain": ["program", "lines", "value"]},
+    outlining: {"outlined": ["program", "name", "lines", "places"], "inlined": ["program", "name"],
+                "rounds": ["program"]},
 }
 METHODS = {
     Program: {"__init__": ["self", "functions"], "size_of": ["self", "name"], "places": ["self"],
@@ -69,6 +76,7 @@ class InterfaceTest(unittest.TestCase):
         self.assertIsInstance(vars(Program)["size_of_line"], staticmethod)
         self.assertTrue(inspect.isgeneratorfunction(Program.places))
         self.assertTrue(inspect.isgeneratorfunction(Run.walk))
+        self.assertTrue(inspect.isgeneratorfunction(outlining.rounds))
 
     def test_properties_stand_in_their_classes(self):
         for kind, names in PROPERTIES.items():
@@ -83,7 +91,7 @@ class InterfaceTest(unittest.TestCase):
 
     def test_what_need_not_be_given(self):
         self.assertEqual(inspect.signature(Run).parameters["inputs"].default, ())
-        for action, name in ((passes.cheaper, "table"), (passes.dropped, "places")):
+        for action, name in ((passes.cheaper, "table"), (passes.dropped, "places"), (outlining.outlined, "places")):
             self.assertIs(inspect.signature(action).parameters[name].default, None)
 
     def test_classes_stand_in_their_files(self):
@@ -104,7 +112,8 @@ class InterfaceTest(unittest.TestCase):
 class ConventionsTest(unittest.TestCase):
     def test_equal_calls_return_equal_results(self):
         for action in (flow.live, holders.holds, holders.shown, sweeping.swept, facts.writes, facts.known, facts.idle,
-                       straightening.straightened, passes.cheaper, passes.dropped, folds.classes, folds.folded):
+                       straightening.straightened, passes.cheaper, passes.dropped, folds.classes, folds.folded,
+                       likeness.core, gains.best):
             self.assertEqual(action(twice()), action(twice()))
         self.assertEqual(run(twice(), [], 99), run(twice(), [], 99))
 

@@ -2,6 +2,7 @@
 
 import ast
 import builtins
+import functools
 import pathlib
 import re
 import unittest
@@ -34,6 +35,7 @@ def files():
     return sorted(PACKAGE.glob("*.py"))
 
 
+@functools.cache
 def trees():
     return [(path.name, ast.parse(path.read_text())) for path in files()]
 

@@ -5,7 +5,10 @@ import unittest
 
 from foldlines.facts import idle, is_idle, is_known, known, link_wanted, wanted, writes
 from foldlines.folds import are_closed, classes, folded, is_unlike, unlike
+from foldlines.gains import best, gain, is_gain, sites
 from foldlines.holders import holds, shown
+from foldlines.likeness import alike, core
+from foldlines.outlining import inlined, outlined, rounds
 from foldlines.passes import cheaper, dropped
 from foldlines.programs import Program
 from foldlines.straightening import straightened
@@ -58,11 +61,20 @@ def one_line_again():
     return Program({name: [("in", 0)] * 59 + [("tail", FOURS[at - 1])] for at, name in enumerate(FOURS)})
 
 
+def texts_again():
+    """Many texts that come again, with calls in between, which keep the link or lose it."""
+    functions = {}
+    for at, name in enumerate(FOURS):
+        text = [("in", 0), ("num", 1, 1000 * at), ("add", 0, 0, 1), ("out", 0), ("call", FOURS[at - 1])]
+        functions[name] = [("push", "link"), *text * 5, *text[:3] * 10, ("pop", "link"), ("back",)]
+    return Program(functions)
+
+
 def label(at):
     return "l" + chr(97 + at)
 
 
-LONG = (calls_by_registers, tails_in_a_ring, calls_in_a_ring, loops, chains_of_jumps, one_line_again)
+LONG = (calls_by_registers, tails_in_a_ring, calls_in_a_ring, loops, chains_of_jumps, one_line_again, texts_again)
 
 
 class LongTest(unittest.TestCase):
@@ -102,3 +114,26 @@ class LongTest(unittest.TestCase):
             for name in program.names:
                 row = self.in_time(unlike, program, "main", name)
                 self.assertTrue(row is None or self.in_time(is_unlike, program, "main", name, row))
+
+    def test_likeness(self):
+        for make in LONG:
+            program = make()
+            self.assertIs(self.in_time(alike, program, self.in_time(core, program)), None)
+            self.assertIs(self.in_time(alike, program, folded(program)), None)
+
+    def test_outlining(self):
+        for make in (one_line_again, texts_again, loops):
+            program = make()
+            lines, _ = self.in_time(best, program) or (program["main"][2:3], 0)
+            self.in_time(sites, program, lines)
+            self.assertIs(self.in_time(is_gain, program, lines, self.in_time(gain, program, lines)), True)
+            if best(program) is not None:
+                made = self.in_time(outlined, program, "g", lines)
+                self.assertTrue(is_right(self.in_time(inlined, made, "g")))
+
+    def test_rounds(self):
+        for make in (one_line_again, texts_again):
+            before = time.perf_counter()
+            told = list(rounds(make()))
+            self.assertLess(time.perf_counter() - before, 0.9 * (len(told) + 1))
+            self.assertGreater(len(told), 1)
