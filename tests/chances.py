@@ -112,8 +112,8 @@ class Builder:
         return [("same", self.reg(), self.reg())] if self.chance.random() < 0.4 else []
 
     def op(self, entries):
-        word = self.chance.choice(("num", "num", "num", "copy", "add", "sub", "mul", "addr", "same", "less", "in", "out",
-                                   "out", "read", "write"))
+        word = self.chance.choice(("num", "num", "num", "copy", "add", "sub", "mul", "addr", "same", "less", "in",
+                                   "out", "out", "read", "write"))
         reg = self.reg()
         if word == "num":
             return ("num", reg, self.chance.choice(NUMBERS))
@@ -172,7 +172,7 @@ def built_programs(number, many):
 
 
 def variant(chance, program):
-    """A swept program in which a function is there twice, each time for some of its callers; at times a line is other."""
+    """A swept program in which functions are there twice, each for some of its callers; at times a line is other."""
     functions = {name: list(lines) for name, lines in program.functions.items()}
     for number in range(chance.randrange(1, 3)):
         name = chance.choice(sorted(functions))
@@ -186,20 +186,28 @@ def variant(chance, program):
         at = chance.randrange(len(lines))
         if lines[at][0] in ("num", "copy", "add", "in", "out", "same", "addr"):
             lines[at] = ("num", chance.randrange(4), 8)
-    names = dict(zip(sorted(functions), chance.sample(["main"] + ["n" + chr(97 + at) for at in range(25)], len(functions))))
-    if chance.random() < 0.5 and "main" not in names.values():
-        names["main"] = "main"
-        functions = {names[name]: [(*line[:-1], names[line[-1]]) if line[0] in ("call", "tail", "addr") else line
-                                   for line in lines] for name, lines in functions.items()}
-    return swept(Program(functions)) if len(functions) <= 24 and max(map(len, functions.values())) <= 60 and sum(
-        map(len, functions.values())) <= 240 else program
+    if chance.random() < 0.5:
+        functions = with_other_names(chance, functions)
+    lengths = [len(lines) for lines in functions.values()]
+    if len(lengths) > 24 or max(lengths) > 60 or sum(lengths) > 240:
+        return program
+    return swept(Program(functions))
+
+
+def with_other_names(chance, functions):
+    """The functions with other names, but for main."""
+    others = ["n" + chr(97 + at) for at in range(25)]
+    names = {name: "main" if name == "main" else others.pop(chance.randrange(len(others))) for name in functions}
+    return {names[name]: [(*line[:-1], names[line[-1]]) if line[0] in ("call", "tail", "addr") else line
+                          for line in lines] for name, lines in functions.items()}
 
 
 def chunk(chance, names):
     """A few lines that may be called; some keep entries, some call, some end."""
     def op():
         word = chance.choice(("num", "add", "in", "out", "out", "copy"))
-        parts = {"num": (chance.randrange(4), chance.choice(NUMBERS)), "copy": (chance.randrange(4), chance.randrange(4)),
+        parts = {"num": (chance.randrange(4), chance.choice(NUMBERS)),
+                 "copy": (chance.randrange(4), chance.randrange(4)),
                  "add": tuple(chance.randrange(4) for _ in range(3))}
         return (word, *parts.get(word, (chance.randrange(4),)))
 
@@ -225,7 +233,8 @@ def chunked_program(chance):
         for _ in range(chance.randrange(1, 6)):
             inner += chance.choice(chunks)
             if chance.random() < 0.3:
-                inner += [("same", 0, 1), ("if", "l"), ("out", 3), ("mark", "l")] if ("mark", "l") not in inner else [("in", 1)]
+                first = ("mark", "l") not in inner
+                inner += [("same", 0, 1), ("if", "l"), ("out", 3), ("mark", "l")] if first else [("in", 1)]
         if any(line[0] == "call" for line in inner):
             inner = [("push", "link"), *inner, ("pop", "link")]
         if name == "main":

@@ -603,7 +603,8 @@ def best_sites(sites, many):
         found = []
         for number in range(len(sites) + 1):
             for chosen in itertools.combinations(sites, number):
-                if all(a[0] != b[0] or abs(a[1] - b[1]) >= many for (a, _), (b, _) in itertools.combinations(chosen, 2)):
+                pairs = itertools.combinations([place for place, _ in chosen], 2)
+                if all(a[0] != b[0] or abs(a[1] - b[1]) >= many for a, b in pairs):
                     found.append((-sum(saved for _, saved in chosen), number, tuple(place for place, _ in chosen)))
         return min(found)[2]
     ahead = [(0, 0, ())]
@@ -631,15 +632,16 @@ def is_gain(functions, text, value):
         return False
     if any(price <= 0 for price in prices.values()):
         return False
-    if any(sum(prices.get((name, first + at), 0) for at in range(many)) < saved for (name, first), saved in sites.items()):
-        return False
+    for (name, first), saved in sites.items():
+        if sum(prices.get((name, first + at), 0) for at in range(many)) < saved:
+            return False
     total = sum(sites[place] for place in chosen)
     return sum(prices.values()) == total and number == total - size(cover(text))
 
 
 def best(functions):
-    texts = {lines[first:last] for lines in functions.values() for last in range(len(lines) + 1) for first in range(last)
-             if reason(lines, first, last - first) is None}
+    texts = {lines[first:last] for lines in functions.values() for last in range(len(lines) + 1)
+             for first in range(last) if reason(lines, first, last - first) is None}
     found = []
     for text in texts:
         number, chosen = gain(functions, text)

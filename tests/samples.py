@@ -92,17 +92,20 @@ def run_alike(one, other, inputs, most):
 
 def is_right(program):
     """Whether a program that a pass made is right line by line, tidy and swept, however many lines it has."""
-    return type(program) is Program and is_swept(program) and all(
-        are_right_lines(program[name], program.names) and reference.is_tidy(program[name], False) for name in program.names)
+    if type(program) is not Program or not is_swept(program):
+        return False
+    rows = program.functions.values()
+    return all(are_right_lines(lines, program.names) and reference.is_tidy(lines, False) for lines in rows)
 
 
 def are_right_lines(lines, names):
-    """Whether lines have their forms, and name only labels and functions that are there, with one mark for each label."""
+    """Whether lines have their forms, and name only labels and functions that are there; each label has one mark."""
     marks = [line[1] for line in lines if line[0] == "mark"]
     labels = [line[1] for line in lines if line[0] in ("jump", "if", "unless")]
     named = [line[-1] for line in lines if line[0] in ("addr", "call", "tail")]
-    return type(lines) is tuple and all(map(is_line, lines)) and len(set(marks)) == len(marks) and set(labels) <= set(
-        marks) and set(named) <= set(names)
+    if type(lines) is not tuple or not all(map(is_line, lines)) or len(set(marks)) < len(marks):
+        return False
+    return set(labels) <= set(marks) and set(named) <= set(names)
 
 
 def again():

@@ -66,7 +66,8 @@ class KnownTest(unittest.TestCase):
     def test_each_line(self):
         told = {("num", 1, -3): {0: 5, 1: -3}, ("num", 0, 6): {0: 6, 1: 7}, ("copy", 1, 0): {0: 5, 1: 5},
                 ("copy", 2, 1): {0: 5, 1: 7, 2: 7}, ("copy", 1, 2): {0: 5}, ("copy", 0, 0): {0: 5, 1: 7},
-                ("add", 0, 1, 1): {1: 7}, ("sub", 1, 0, 0): {0: 5}, ("mul", 1, 1, 1): {0: 5}, ("addr", 0, "main"): {1: 7},
+                ("add", 0, 1, 1): {1: 7}, ("sub", 1, 0, 0): {0: 5}, ("mul", 1, 1, 1): {0: 5},
+                ("addr", 0, "main"): {1: 7},
                 ("in", 1): {0: 5}, ("pop", 1): {0: 5}, ("read", 0, 0): {1: 7}, ("same", 0, 1): {0: 5, 1: 7},
                 ("less", 0, 1): {0: 5, 1: 7}, ("out", 0): {0: 5, 1: 7}, ("push", 0): {0: 5, 1: 7},
                 ("push", "link"): {0: 5, 1: 7}, ("write", 0, 1): {0: 5, 1: 7}}
@@ -317,7 +318,8 @@ class IdleTest(unittest.TestCase):
         self.assertIs(is_idle(program, both), False)
 
     def test_one_line_more(self):
-        program = Program.of(("num", 0, 1), ("copy", 1, 0), ("copy", 2, 1), ("same", 2, 2), ("num", 3, 4), ("out", 3), STOP)
+        program = Program.of(("num", 0, 1), ("copy", 1, 0), ("copy", 2, 1), ("same", 2, 2), ("num", 3, 4), ("out", 3),
+                             STOP)
         places = [("main", at) for at in range(4)]
         self.assertEqual(idle(program), tuple(places))
         for first in range(4):

@@ -27,7 +27,8 @@ def ring_of(many, ends=None):
     functions = {"main": [("in", 0), *(("call", name) for name in names), STOP]}
     for at, name in enumerate(names):
         functions[name] = [("push", "link"), ("less", 0, 1), ("if", name), ("out", 0), ("sub", 0, 0, 2),
-                           ("call", names[(at + 1) % many]), ("mark", name), ("pop", "link"), (ends or {}).get(at, BACK)]
+                           ("call", names[(at + 1) % many]), ("mark", name), ("pop", "link"),
+                           (ends or {}).get(at, BACK)]
     return Program(functions)
 
 
@@ -82,7 +83,8 @@ class ClassesTest(unittest.TestCase):
     def test_labels(self):
         def lines(*labels):
             a, b, c = labels
-            return [("in", 0), ("mark", a), ("same", 0, 1), ("if", b), ("mark", c), ("in", 0), ("less", 0, 1), ("unless", a),
+            return [("in", 0), ("mark", a), ("same", 0, 1), ("if", b), ("mark", c), ("in", 0), ("less", 0, 1),
+                    ("unless", a),
                     ("same", 2, 0), ("if", c), ("mark", b), BACK]
 
         self.assertIn(("f", "g"), classes(pair_of(lines("a", "b", "c"), lines("c", "a", "b"))))
@@ -144,7 +146,8 @@ class AreClosedTest(unittest.TestCase):
         program = ring_of(3)
         names = program.names
         for numbers in itertools.product(range(4), repeat=4):
-            value = tuple(tuple(name for name, number in zip(names, numbers) if number == part) for part in set(numbers))
+            parts = [[name for name, number in zip(names, numbers) if number == part] for part in set(numbers)]
+            value = tuple(map(tuple, parts))
             right = sorted(map(sorted, value)) in ([list(names[:3]), ["main"]], [[name] for name in names])
             self.assertIs(are_closed(program, value), right, value)
 
@@ -205,7 +208,8 @@ class UnlikeTest(unittest.TestCase):
 
     def test_rows(self):
         for program in (rings(), seen(), twice(), facts(), ring_of(4), ring_of(5, {4: ("tail", "fa")}),
-                        ring_of(4, {1: ("tail", "fb"), 3: STOP}), pair_of([("addr", 1, "h"), BACK], [("addr", 1, "i"), BACK]),
+                        ring_of(4, {1: ("tail", "fb"), 3: STOP}),
+                        pair_of([("addr", 1, "h"), BACK], [("addr", 1, "i"), BACK]),
                         pair_of([("addr", 1, "h"), BACK], [("addr", 1, "i"), BACK], ("same", 1, 1))):
             self.check(program)
 
@@ -262,7 +266,8 @@ class UnlikeTest(unittest.TestCase):
         self.assertIs(is_unlike(program, "f", "g", (("f", "g", 0),)), True)
 
         program = pair_of([("in", 0), BACK], [("in", 0), STOP])
-        for row in ((("f", "g", 0), (None, None, 0)), (("f", "g", 0), (None, None, None)), (("f", "g", 0), ("f", "g", 1))):
+        for row in ((("f", "g", 0), (None, None, 0)), (("f", "g", 0), (None, None, None)),
+                    (("f", "g", 0), ("f", "g", 1))):
             self.assertIs(is_unlike(program, "f", "g", row), False)
 
     def test_functions_are_told_apart_by_their_addresses_alone(self):
@@ -301,7 +306,8 @@ class FoldedTest(unittest.TestCase):
             made = self.told(ring_of(many))
             self.assertEqual(made.names, ("fa", "main"))
             self.assertEqual(made["main"], (("in", 0), *[("call", "fa")] * many, STOP))
-            self.assertEqual(self.told(ring_of(many, {many - 1: ("tail", "fa")})), ring_of(many, {many - 1: ("tail", "fa")}))
+            self.assertEqual(self.told(ring_of(many, {many - 1: ("tail", "fa")})),
+                             ring_of(many, {many - 1: ("tail", "fa")}))
 
     def test_main_stands_for_others(self):
         program = Program({"main": [("in", 0), ("out", 0), ("tail", "f")], "f": [("in", 0), ("out", 0), ("tail", "g")],

@@ -23,13 +23,17 @@ BARRED = (
     [("mark", "a")], [("jump", "a")], [("if", "a")], [("unless", "a")], [("in", 0), ("mark", "a"), ("in", 0)],
     [BACK, ("in", 0)], [STOP, STOP], [("tail", "f"), BACK], [PUSH], [POP], [PUSH, ("call", "f"), POP], [("pop", 0)],
     [("push", 0)], [("push", 0), BACK], [("push", 0), ("tail", "f")], [("read", 0, 0)], [("write", 0, 0)],
-    [("push", 0), ("read", 0, 1), ("pop", 0)], [("push", 0), ("write", 1, 0), ("pop", 0)], [("push", 0), ("pop", 0), ("pop", 0)],
+    [("push", 0), ("read", 0, 1), ("pop", 0)], [("push", 0), ("write", 1, 0), ("pop", 0)],
+    [("push", 0), ("pop", 0), ("pop", 0)],
     [("pop", 0), STOP], [("push", 0), PUSH, STOP], [("push", 0), POP, BACK], [("push", 0), POP, ("pop", 0), STOP],
 )
 NO_LINES = (
-    [()], [("num",)], [("num", 0)], [("num", 0, 2 ** 31)], [("num", True, 1)], [("num", 0, False)], [("in", 6)], [("in", -1)],
-    [["in", 0]], ["stop"], [("stop", 0)], [("call", "F")], [("call", "nineteens")], [("call", 0)], [("add", 0, 1)], [("read", 0, 60)],
-    [("push", "links")], [("none", 0)], [STOP, None], [("num", 0, None)], [None, STOP], ("stop",), "stop", {"stop": STOP},
+    [()], [("num",)], [("num", 0)], [("num", 0, 2 ** 31)], [("num", True, 1)], [("num", 0, False)], [("in", 6)],
+    [("in", -1)],
+    [["in", 0]], ["stop"], [("stop", 0)], [("call", "F")], [("call", "nineteens")], [("call", 0)], [("add", 0, 1)],
+    [("read", 0, 60)],
+    [("push", "links")], [("none", 0)], [STOP, None], [("num", 0, None)], [None, STOP], ("stop",), "stop",
+    {"stop": STOP},
 )
 
 
@@ -76,13 +80,16 @@ class SitesTest(unittest.TestCase):
         self.assertEqual(sites(program, [("in", 0)]), [(("main", at), -1) for at in range(5)])
 
     def test_the_link(self):
-        program = Program({"main": [*TEXT, ("call", "f"), *TEXT, STOP], "f": [*TEXT, PUSH, *TEXT, ("call", "g"), POP, *TEXT, BACK],
+        program = Program({"main": [*TEXT, ("call", "f"), *TEXT, STOP],
+                           "f": [*TEXT, PUSH, *TEXT, ("call", "g"), POP, *TEXT, BACK],
                            "g": [*TEXT, ("tail", "h")], "h": [*TEXT, STOP]})
-        self.assertEqual(sites(program, TEXT), [(("f", 0), 0), (("f", 5), 2), (("f", 11), 0), (("g", 0), 0), (("h", 0), 2),
+        self.assertEqual(sites(program, TEXT), [(("f", 0), 0), (("f", 5), 2), (("f", 11), 0), (("g", 0), 0),
+                                                (("h", 0), 2),
                                                 (("main", 0), 2), (("main", 5), 2)])
 
     def test_the_link_on_one_way(self):
-        program = Program.of(("in", 2), ("if", "a"), *TEXT, ("if", "b"), STOP, ("mark", "a"), *TEXT, STOP, ("mark", "b"), BACK)
+        program = Program.of(("in", 2), ("if", "a"), *TEXT, ("if", "b"), STOP, ("mark", "a"), *TEXT, STOP,
+                             ("mark", "b"), BACK)
         self.assertEqual(sites(program, TEXT), [(("main", 2), 0), (("main", 9), 2)])
 
     def test_ends(self):
@@ -101,14 +108,16 @@ class SitesTest(unittest.TestCase):
             self.assertEqual(outlined(program, "f", text, [("main", 2)])["main"][2:4], (("tail", "f"), ("mark", "a")))
 
     def test_frames(self):
-        program = Program({"main": [("call", "f"), NUMBER, STOP], "f": [("push", 0), NUMBER, ("if", "a"), ("pop", 0), NUMBER, STOP,
+        program = Program({"main": [("call", "f"), NUMBER, STOP],
+                           "f": [("push", 0), NUMBER, ("if", "a"), ("pop", 0), NUMBER, STOP,
                                                                         ("mark", "a"), NUMBER, STOP]})
         self.assertEqual(sites(program, [NUMBER, STOP]), [(("f", 4), 2)])
 
     def test_order_of_places(self):
         program = Program({"main": [("call", "b"), ("call", "a"), ("out", 0), STOP], "a": [("out", 0), BACK],
                            "b": [("out", 0), ("out", 0), BACK]})
-        self.assertEqual([place for place, _ in sites(program, [("out", 0)])], [("a", 0), ("b", 0), ("b", 1), ("main", 2)])
+        self.assertEqual([place for place, _ in sites(program, [("out", 0)])],
+                         [("a", 0), ("b", 0), ("b", 1), ("main", 2)])
 
     def test_wrong_lines(self):
         for value in (*ANY_VALUES, *BARRED, *NO_LINES):
@@ -129,7 +138,8 @@ class GainTest(unittest.TestCase):
         number, places, prices = value
         self.assertEqual(list(prices), sorted(prices))
         for other in ((number + 1, places, prices), (number - 1, places, prices), (number, list(places), prices),
-                      (number, places[::-1], prices) if len(places) > 1 else None, (number, places, list(prices.items())),
+                      (number, places[::-1], prices) if len(places) > 1 else None,
+                      (number, places, list(prices.items())),
                       (number, places), (number, places, prices, None), list(value), (None, places, prices),
                       (places, number, prices), (number, places[1:], prices) if places else None,
                       (number, places + places[-1:], prices) if places else None,
@@ -183,7 +193,8 @@ class GainTest(unittest.TestCase):
         self.assertEqual(value[0], 1 - 4)
 
     def test_ends_of_functions(self):
-        program = Program({"main": [("call", "f"), ("call", "g"), NUMBER, ("out", 0), STOP], "f": [("in", 1), NUMBER, ("out", 0), BACK],
+        program = Program({"main": [("call", "f"), ("call", "g"), NUMBER, ("out", 0), STOP],
+                           "f": [("in", 1), NUMBER, ("out", 0), BACK],
                            "g": [("in", 2), NUMBER, ("out", 0), BACK]})
         value = self.told(program, [NUMBER, ("out", 0), BACK])
         self.assertTrue(same(value[:2], (1, (("f", 1), ("g", 1)))))
@@ -211,7 +222,8 @@ class GainTest(unittest.TestCase):
         self.assertIs(is_gain(program, [NUMBER], (-1, places[:2], right[2])), False)
         self.assertIs(is_gain(program, [NUMBER], (-1, places, {**three, ("main", 2): True})), False)
         self.assertIs(is_gain(program, [NUMBER], (-1, (("main", False), *places[1:]), three)), False)
-        self.assertIs(is_gain(program, [NUMBER], (-1, places, {("main", False): 1, ("main", True): 1, ("main", 2): 1})), False)
+        self.assertIs(is_gain(program, [NUMBER], (-1, places, {("main", False): 1, ("main", True): 1,
+                                                               ("main", 2): 1})), False)
         four = Program.of(*[NUMBER] * 4, STOP)
         self.assertEqual(gain(four, [NUMBER])[0], 0)
         value = gain(four, [NUMBER])
@@ -224,7 +236,8 @@ class GainTest(unittest.TestCase):
         program = Program.of(*[NUMBER] * 3, STOP)
         text = [NUMBER] * 2
         for place in (("main", 0), ("main", 1)):
-            for prices, right in (({("main", 1): 4}, True), ({("main", 0): 4}, False), ({("main", 0): 2, ("main", 1): 2}, False),
+            for prices, right in (({("main", 1): 4}, True), ({("main", 0): 4}, False),
+                                  ({("main", 0): 2, ("main", 1): 2}, False),
                                   ({("main", 0): 1, ("main", 1): 3}, False), ({("main", 2): 4}, False),
                                   ({("main", 1): 3, ("main", 3): 1}, False)):
                 self.assertIs(is_gain(program, text, (4 - 7, (place,), prices)), right)
@@ -287,7 +300,8 @@ class BestTest(unittest.TestCase):
             lines = [line for text in row for line in [*text * 3, ("less", 4, 5)]]
             self.assertEqual(self.told(*lines, STOP), (tuple(row[0]), 1))
         functions = {"f": texts[1] * 3 + [STOP], "g": texts[2] * 3 + [STOP]}
-        self.assertEqual(self.told(*texts[0] * 3, ("call", "f"), ("call", "g"), STOP, **functions), (tuple(texts[1]), 1))
+        self.assertEqual(self.told(*texts[0] * 3, ("call", "f"), ("call", "g"), STOP, **functions),
+                         (tuple(texts[1]), 1))
 
     def test_the_first_place_of_the_best_ones(self):
         # The first place of one text is earlier, but a site there saves nothing, so that it is none of the best.

@@ -66,7 +66,8 @@ class AlikeTest(unittest.TestCase):
     def test_other_names_and_labels(self):
         self.assertIs(self.told(rings(), renamed(rings(), {"a": "b", "b": "a"})), None)
         self.assertIs(self.told(seen(), renamed(seen(), {"a": "z", "b": "aa"})), None)
-        program = Program.of(("mark", "a"), ("in", 0), ("same", 0, 1), ("if", "a"), ("less", 0, 1), ("if", "b"), ("mark", "b"),
+        program = Program.of(("mark", "a"), ("in", 0), ("same", 0, 1), ("if", "a"), ("less", 0, 1), ("if", "b"),
+                             ("mark", "b"),
                              STOP)
         self.assertIs(self.told(program, renamed(program, {})), None)
 
@@ -259,13 +260,15 @@ class CoreTest(unittest.TestCase):
 
     def test_names_in_the_order_in_which_functions_are_met(self):
         program = Program({"main": [("call", "z"), ("call", "y"), ("call", "z"), ("call", "x"), STOP],
-                           "x": [("in", 0), BACK], "y": [("in", 1), BACK], "z": [("tail", "w")], "w": [("in", 2), BACK]})
+                           "x": [("in", 0), BACK], "y": [("in", 1), BACK], "z": [("tail", "w")],
+                           "w": [("in", 2), BACK]})
         self.assertEqual(self.told(program), {
             "main": (("call", "a"), ("call", "b"), ("call", "a"), ("call", "c"), STOP),
             "a": (("tail", "d"),), "b": (("in", 1), BACK), "c": (("in", 0), BACK), "d": (("in", 2), BACK)})
 
     def test_labels_in_the_order_of_marks(self):
-        program = Program.of(("in", 0), ("if", "c"), ("mark", "z"), ("out", 0), ("mark", "c"), ("less", 0, 1), ("if", "z"),
+        program = Program.of(("in", 0), ("if", "c"), ("mark", "z"), ("out", 0), ("mark", "c"), ("less", 0, 1),
+                             ("if", "z"),
                              STOP)
         self.assertEqual(self.told(program)["main"], (
             ("in", 0), ("if", "b"), ("mark", "a"), ("out", 0), ("mark", "b"), ("less", 0, 1), ("if", "a"), STOP))
@@ -284,7 +287,8 @@ class CoreTest(unittest.TestCase):
         self.assertEqual(marks, [*"abcdefghijklmnopqrstuvwxyz", "aa", "ab"])
 
     def test_shown_functions_that_are_called_too(self):
-        program = Program({"main": [("addr", 0, "f"), ("addr", 1, "g"), ("same", 0, 1), ("call", "f"), ("call", "h"), STOP],
+        program = Program({"main": [("addr", 0, "f"), ("addr", 1, "g"), ("same", 0, 1), ("call", "f"), ("call", "h"),
+                                    STOP],
                            "f": [("out", 0), BACK], "g": [("out", 0), BACK], "h": [("out", 0), BACK]})
         self.assertEqual(self.told(program), {
             "main": (("addr", 0, "a"), ("addr", 1, "b"), ("same", 0, 1), ("call", "c"), ("call", "c"), STOP),

@@ -21,7 +21,8 @@ FOURS = ["main", "a", "b", "c"]
 
 def calls_by_registers():
     """All functions may call all others by registers."""
-    return Program({name: [("push", "link"), ("addr", 0, NAMES[at - 1]), *[("callr", 0)] * 6, ("pop", "link"), ("back",)]
+    return Program({name: [("push", "link"), ("addr", 0, NAMES[at - 1]), *[("callr", 0)] * 6, ("pop", "link"),
+                           ("back",)]
                     for at, name in enumerate(NAMES)})
 
 
@@ -32,7 +33,8 @@ def tails_in_a_ring():
 
 
 def calls_in_a_ring():
-    functions = {name: [("push", "link"), *[("in", 0), ("out", 0)] * 3, ("call", NAMES[at - 1]), ("pop", "link"), ("back",)]
+    functions = {name: [("push", "link"), *[("in", 0), ("out", 0)] * 3, ("call", NAMES[at - 1]), ("pop", "link"),
+                        ("back",)]
                  for at, name in enumerate(NAMES)}
     functions["main"][-1] = ("stop",)
     return Program(functions)

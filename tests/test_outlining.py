@@ -45,7 +45,8 @@ class OutlinedTest(unittest.TestCase):
         self.assertEqual(outlined(program=again(), name="g", lines=TEXT, places=PLACES), outlined(again(), "g", TEXT))
 
     def test_sites_with_the_link(self):
-        program = Program({"main": [("call", "f"), *TEXT, STOP], "f": [*TEXT, ("if", "a"), *TEXT, STOP, ("mark", "a"), BACK]})
+        program = Program({"main": [("call", "f"), *TEXT, STOP],
+                           "f": [*TEXT, ("if", "a"), *TEXT, STOP, ("mark", "a"), BACK]})
         made = self.told(program, "b", TEXT, [("f", 0), ("f", 5), ("main", 1)])
         self.assertEqual(made.functions, {
             "b": (*TEXT, BACK), "main": (("call", "f"), ("call", "b"), STOP),
@@ -87,7 +88,8 @@ class OutlinedTest(unittest.TestCase):
 
     def test_more_than_the_limits(self):
         names = ["f" + chr(97 + at) for at in range(23)]
-        program = Program({"main": [*(("call", name) for name in names), *TEXT, STOP], **{name: [BACK] for name in names}})
+        program = Program({"main": [*(("call", name) for name in names), *TEXT, STOP],
+                           **{name: [BACK] for name in names}})
         made = self.told(program, "g", TEXT, [("main", 23)])
         self.assertEqual(len(made), 25)
         again_made = outlined(made, "h", [("in", 0), ("add", 0, 0, 0)], [("g", 0)])
@@ -117,7 +119,8 @@ class OutlinedTest(unittest.TestCase):
     def test_wrong_places(self):
         wrong = [*ANY_VALUES, [("main", 12)], [("main", 1)], [("main", 0), ("main", 1)], [["main", 0]], ("main", 0),
                  [("main", False)], [("main", 0), ("main", 0)], [("main", 0), None], [("gone", 0)], {("main", 0): 2},
-                 [(("main", 0), 2)], [("main", 4), ("main", True)], [("main", 0), ["main", 4]], [({}, 0)], [("main", [0])]]
+                 [(("main", 0), 2)], [("main", 4), ("main", True)], [("main", 0), ["main", 4]], [({}, 0)],
+                 [("main", [0])]]
         for value in wrong:
             if value is not None:
                 with self.assertRaises(InvalidPlaces, msg=value) as caught:
@@ -154,14 +157,16 @@ class InlinedTest(unittest.TestCase):
     def test_each_end(self):
         for end, call in ((BACK, ()), (STOP, (STOP,)), (("tail", "g"), (("call", "g"),))):
             more = {"g": [("out", 2), BACK]} if end == ("tail", "g") else {}
-            made = self.told(main=[("in", 0), ("call", "f"), ("call", "h"), STOP], f=[("out", 0), end], h=[("in", 1), ("tail", "f")],
+            made = self.told(main=[("in", 0), ("call", "f"), ("call", "h"), STOP], f=[("out", 0), end],
+                             h=[("in", 1), ("tail", "f")],
                              **more)
             self.assertEqual(made.get("h"), None if end == STOP else (("in", 1), ("out", 0), end))
             rest = () if end == STOP else (("call", "h"), STOP)
             self.assertEqual(made["main"], (("in", 0), ("out", 0), *call, *rest))
 
     def test_link_lines(self):
-        made = self.told(main=[("in", 0), ("call", "f"), ("call", "h"), STOP], f=[PUSH, ("call", "g"), ("out", 0), POP, BACK],
+        made = self.told(main=[("in", 0), ("call", "f"), ("call", "h"), STOP],
+                         f=[PUSH, ("call", "g"), ("out", 0), POP, BACK],
                          g=[("in", 0), BACK], h=[("in", 1), ("tail", "f")])
         self.assertEqual(made["main"], (("in", 0), ("call", "g"), ("out", 0), ("call", "h"), STOP))
         self.assertEqual(made["h"], (("in", 1), PUSH, ("call", "g"), ("out", 0), POP, BACK))
@@ -174,14 +179,16 @@ class InlinedTest(unittest.TestCase):
 
     def test_entries(self):
         made = self.told(main=[PUSH, ("in", 0), ("push", 0), ("call", "f"), ("pop", 0), POP, ("tail", "f")],
-                         f=[PUSH, ("push", 0), ("push", 0), ("read", 1, 1), ("write", 0, 1), ("pop", 2), ("pop", 2), ("out", 2), POP,
+                         f=[PUSH, ("push", 0), ("push", 0), ("read", 1, 1), ("write", 0, 1), ("pop", 2), ("pop", 2),
+                            ("out", 2), POP,
                             BACK])
         self.assertEqual(len(made["main"]), 5 + 7 + 10)
         made = self.told(main=[PUSH, ("in", 0), ("call", "f"), POP, BACK], f=[("push", 0), ("out", 0), STOP])
         self.assertEqual(made["main"], (PUSH, ("in", 0), ("push", 0), ("out", 0), STOP))
 
     def test_what_is_not_reached_any_more(self):
-        made = self.told(main=[("in", 0), ("if", "a"), ("call", "f"), ("jump", "a"), ("mark", "a"), ("call", "g"), STOP],
+        made = self.told(main=[("in", 0), ("if", "a"), ("call", "f"), ("jump", "a"), ("mark", "a"), ("call", "g"),
+                               STOP],
                          f=[STOP], g=[BACK])
         self.assertEqual(made["main"], (("in", 0), ("if", "a"), STOP, ("mark", "a"), ("call", "g"), STOP))
         made = self.told(main=[("call", "f"), ("call", "g"), STOP], f=[("in", 0), STOP], g=[BACK])
@@ -282,7 +289,8 @@ class RoundsTest(unittest.TestCase):
         program = Program({"main": [*texts, ("call", "a"), ("call", "c"), STOP], "a": [BACK], "c": [BACK]})
         self.assertEqual(self.check(program), ["b", "d", "e"])
         names = [chr(97 + at) for at in range(23)]
-        program = Program({"main": [*(("call", name) for name in names), *texts[:32], STOP], **{name: [BACK] for name in names}})
+        program = Program({"main": [*(("call", name) for name in names), *texts[:32], STOP],
+                           **{name: [BACK] for name in names}})
         self.assertEqual(self.check(program), ["x", "y"])
 
     def test_rounds_within_rounds(self):

@@ -44,8 +44,10 @@ class PackingTest(unittest.TestCase):
 
     def test_the_least(self):
         self.assertEqual(self.check([(("f", 0), 2), (("f", 1), 2)], 2), (("f", 0),))
-        self.assertEqual(self.check([(("f", 0), 2), (("f", 1), 3), (("f", 3), 2), (("f", 4), 3)], 3), (("f", 1), ("f", 4)))
-        self.assertEqual(self.check([(("f", 0), 2), (("f", 1), 3), (("f", 3), 3), (("f", 4), 2)], 3), (("f", 0), ("f", 3)))
+        self.assertEqual(self.check([(("f", 0), 2), (("f", 1), 3), (("f", 3), 2), (("f", 4), 3)], 3),
+                         (("f", 1), ("f", 4)))
+        self.assertEqual(self.check([(("f", 0), 2), (("f", 1), 3), (("f", 3), 3), (("f", 4), 2)], 3),
+                         (("f", 0), ("f", 3)))
 
     def test_two_functions(self):
         self.assertEqual(self.check([(("f", 5), 2), (("g", 0), 2), (("g", 1), 3), (("h", 1), 2)], 2),

@@ -105,7 +105,8 @@ class DroppedTest(unittest.TestCase):
         self.assertEqual(dropped(program).functions, {"main": (STOP,)})
 
     def test_lines_in_loops(self):
-        program = Program.of(("mark", "a"), ("copy", 0, 1), ("copy", 1, 0), ("in", 2), ("same", 2, 3), ("unless", "a"), STOP)
+        program = Program.of(("mark", "a"), ("copy", 0, 1), ("copy", 1, 0), ("in", 2), ("same", 2, 3), ("unless", "a"),
+                             STOP)
         self.assertEqual(dropped(program)["main"], (("mark", "a"), *program["main"][3:]))
         self.assertRaises(InvalidPlaces, dropped, program, [("main", 1)])
 

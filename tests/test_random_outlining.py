@@ -51,7 +51,8 @@ class LikenessTest(unittest.TestCase):
             self.assertTrue(all(run_alike(program, common, inputs, 200) for inputs in INPUTS))
             self.assertIs(alike(program, common), None)
             self.assertEqual(core(common), common)
-            for other in (folded(program), variant(chance, program), variant(chance, program), variant(chance, program)):
+            for other in (folded(program), variant(chance, program), variant(chance, program),
+                          variant(chance, program)):
                 paper = alike(program, other)
                 self.assertIs(paper is None, reference.is_alike(program.functions, other.functions))
                 self.assertIs(core(other) == common, paper is None)

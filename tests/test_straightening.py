@@ -32,7 +32,8 @@ class StraightenedTest(unittest.TestCase):
 
     def test_jumps_to_jumps(self):
         for word in ("if", "unless"):
-            lines = [("in", 0), ("less", 0, 1), (word, "a"), ("out", 0), STOP, ("mark", "a"), ("jump", "b"), ("mark", "c"),
+            lines = [("in", 0), ("less", 0, 1), (word, "a"), ("out", 0), STOP, ("mark", "a"), ("jump", "b"),
+                     ("mark", "c"),
                      ("out", 0), ("mark", "b"), ("out", 1), ("in", 1), ("less", 1, 0), ("if", "c"), STOP]
             self.assertEqual(self.told(*lines), [*lines[:2], (word, "b"), *lines[3:5], *lines[7:]])
         lines = [("in", 0), ("jump", "a"), ("mark", "d"), ("out", 0), ("less", 0, 1), ("if", "b"), STOP, ("mark", "a"),
@@ -58,7 +59,8 @@ class StraightenedTest(unittest.TestCase):
             ring = [(("mark", name), ("jump", names[(at + 1) % many])) for at, name in enumerate(names)]
             ahead = [line for pair in ring for line in pair]
             back = [line for pair in reversed(ring) for line in pair]
-            self.assertEqual(self.told(*head, ("if", "m"), STOP, *ahead), [*head, ("if", "m"), STOP, ahead[0], ("jump", "m")])
+            self.assertEqual(self.told(*head, ("if", "m"), STOP, *ahead),
+                             [*head, ("if", "m"), STOP, ahead[0], ("jump", "m")])
             expected = [*head, ("if", "m"), STOP, *back]
             if many == 2:
                 del expected[5]
@@ -73,7 +75,8 @@ class StraightenedTest(unittest.TestCase):
         for word in ("jump", "if", "unless"):
             lines = [("in", 0), (word, "a"), ("mark", "a"), ("out", 0), STOP]
             self.assertEqual(self.told(*lines), [("in", 0), ("out", 0), STOP])
-            lines = [("in", 0), ("mark", "b"), (word, "a"), ("mark", "c"), ("mark", "a"), ("out", 0), ("in", 1), ("same", 1, 2),
+            lines = [("in", 0), ("mark", "b"), (word, "a"), ("mark", "c"), ("mark", "a"), ("out", 0), ("in", 1),
+                     ("same", 1, 2),
                      ("if", "b"), ("less", 1, 2), ("if", "c"), STOP]
             self.assertEqual(self.told(*lines), [lines[0], lines[1], lines[3], *lines[5:]])
 
@@ -86,17 +89,20 @@ class StraightenedTest(unittest.TestCase):
 
     def test_branches_over_jumps_alone(self):
         for word, other in (("if", "unless"), ("unless", "if")):
-            lines = [("mark", "b"), ("in", 0), ("less", 0, 1), (word, "a"), ("jump", "b"), ("mark", "a"), ("out", 0), STOP]
+            lines = [("mark", "b"), ("in", 0), ("less", 0, 1), (word, "a"), ("jump", "b"), ("mark", "a"), ("out", 0),
+                     STOP]
             self.assertEqual(self.told(*lines), [*lines[:3], (other, "b"), *lines[6:]])
             lines = [("mark", "b"), ("in", 0), ("less", 0, 1), (word, "a"), ("jump", "b"), ("mark", "c"), ("mark", "a"),
                      ("out", 0), ("same", 0, 1), ("if", "c"), STOP]
             self.assertEqual(self.told(*lines), [*lines[:3], (other, "b"), ("mark", "c"), *lines[7:]])
 
     def test_branches_over_more_than_jumps(self):
-        lines = [("mark", "b"), ("in", 0), ("less", 0, 1), ("if", "a"), ("out", 1), ("jump", "b"), ("mark", "a"), ("out", 0),
+        lines = [("mark", "b"), ("in", 0), ("less", 0, 1), ("if", "a"), ("out", 1), ("jump", "b"), ("mark", "a"),
+                 ("out", 0),
                  STOP]
         self.assertEqual(self.told(*lines), lines)
-        lines = [("mark", "b"), ("in", 0), ("less", 0, 1), ("if", "a"), ("mark", "c"), ("jump", "b"), ("mark", "a"), ("out", 0),
+        lines = [("mark", "b"), ("in", 0), ("less", 0, 1), ("if", "a"), ("mark", "c"), ("jump", "b"), ("mark", "a"),
+                 ("out", 0),
                  ("same", 0, 1), ("if", "d"), STOP, ("mark", "d"), ("in", 2), ("less", 2, 1), ("if", "c"), STOP]
         # The mark goes only behind the branch that named it, so that the branch over the jump is turned at last.
         expected = [*lines[:3], ("unless", "b"), *lines[7:14], ("if", "b"), STOP]
@@ -126,12 +132,14 @@ class StraightenedTest(unittest.TestCase):
 
     def test_the_least_place_comes_first(self):
         lines = [("in", 0), ("less", 0, 1), ("if", "a"), ("jump", "b"), ("mark", "a"), ("out", 0), ("mark", "b"), STOP]
-        self.assertEqual(self.told(*lines), [("in", 0), ("less", 0, 1), ("unless", "b"), ("out", 0), ("mark", "b"), STOP])
+        self.assertEqual(self.told(*lines), [("in", 0), ("less", 0, 1), ("unless", "b"), ("out", 0), ("mark", "b"),
+                                             STOP])
         lines = [("in", 0), ("less", 0, 1), ("if", "a"), ("jump", "a"), ("mark", "a"), ("out", 0), STOP]
         self.assertEqual(self.told(*lines), [("in", 0), ("less", 0, 1), ("out", 0), STOP])
 
     def test_again_behind_sweeping(self):
-        lines = [("in", 0), ("jump", "a"), ("mark", "b"), ("jump", "c"), ("mark", "a"), ("less", 0, 1), ("if", "b"), STOP,
+        lines = [("in", 0), ("jump", "a"), ("mark", "b"), ("jump", "c"), ("mark", "a"), ("less", 0, 1), ("if", "b"),
+                 STOP,
                  ("mark", "c"), ("out", 0), STOP]
         self.assertEqual(self.told(*lines), [("in", 0), ("less", 0, 1), ("if", "c"), STOP, *lines[8:]])
 

@@ -23,7 +23,8 @@ class ReasonTest(unittest.TestCase):
                             ("addr", 0, "f"), ("same", 0, 1), ("less", 0, 1), ("in", 0), ("out", 0)], 0, 11), None)
 
     def test_jump(self):
-        lines = [("in", 0), ("mark", "a"), ("if", "b"), ("out", 0), ("unless", "a"), ("jump", "b"), ("mark", "b"), ("in", 0)]
+        lines = [("in", 0), ("mark", "a"), ("if", "b"), ("out", 0), ("unless", "a"), ("jump", "b"), ("mark", "b"),
+                 ("in", 0)]
         for at in range(8):
             self.assertEqual(told(lines, at, 1), None if at in (0, 3, 7) else "jump")
         self.assertTrue(same(told(lines, 0, 2), "jump"))
@@ -35,9 +36,8 @@ class ReasonTest(unittest.TestCase):
         self.assertIs(told(lines, 2, 1), None)
         self.assertIs(told(lines, 2, 2), None)
         self.assertEqual(told(lines, 2, 3), "jump")
-        lines = [("in", 0), ("if", "a"), ("if", "b"), ("mark", "c"), ("out", 0), STOP, ("mark", "a"), BACK, ("mark", "b"),
+        lines = [("in", 0), ("if", "a"), ("if", "b"), ("out", 0), STOP, ("mark", "a"), BACK, ("mark", "b"),
                  ("tail", "f")]
-        lines = [line for line in lines if line != ("mark", "c")]
         program = Program({"main": [("call", "f"), STOP], "f": lines})
         for first, end in ((4, STOP), (6, BACK), (8, ("tail", "f"))):
             self.assertEqual(program["f"][first], end)
@@ -60,8 +60,10 @@ class ReasonTest(unittest.TestCase):
         self.assertIs(told(lines, 0, 8), None)
         for first, many in ((1, 6), (2, 1), (3, 1), (4, 1), (5, 1), (6, 1), (7, 1), (1, 3), (6, 2)):
             self.assertEqual(told(lines, first, many), "stack", (first, many))
-        for line, right in ((("read", 2, 0), True), (("read", 2, 1), False), (("write", 0, 2), True), (("write", 1, 2), False)):
-            self.assertEqual(told([("push", 0), ("push", 0), line, ("pop", 0), ("pop", 0)], 1, 3), None if right else "stack")
+        for line, right in ((("read", 2, 0), True), (("read", 2, 1), False), (("write", 0, 2), True),
+                            (("write", 1, 2), False)):
+            self.assertEqual(told([("push", 0), ("push", 0), line, ("pop", 0), ("pop", 0)], 1, 3),
+                             None if right else "stack")
         self.assertEqual(told([("push", 0), ("push", 0), ("pop", 0), ("pop", 0), ("in", 0)], 1, 3), "stack")
 
     def test_entries_that_are_left(self):
@@ -106,7 +108,8 @@ class ReasonTest(unittest.TestCase):
 
     def test_wrong_stretches(self):
         wrong = [(0, 0), (0, -1), (-1, 1), (6, 1), (5, 2), (0, 7), (3, 4), (10 ** 59, 1), (0, 10 ** 59), (False, 1),
-                 (0, True), (True, True), (None, 1), (0, None), ("0", 1), (0, "1"), ([0], 1), (0, (1,)), (-6, 6), (6, 0)]
+                 (0, True), (True, True), (None, 1), (0, None), ("0", 1), (0, "1"), ([0], 1), (0, (1,)), (-6, 6),
+                 (6, 0)]
         wrong += [(value, 1) for value in ANY_VALUES if type(value) is not int]
         wrong += [(0, value) for value in ANY_VALUES if type(value) is not int]
         for first, many in wrong:
