@@ -156,7 +156,8 @@ def _head_of(part, shown_part):
 
 def _folded_lines(lines, name, heads, addresses):
     """What the lines of a function become, told the representatives and the addresses that stay or change."""
-    if addresses.get(name, heads[name]) == name != heads[name] and lines_size(lines) > 2:
+    keeps_address = name in addresses and addresses[name] == name
+    if keeps_address and name != heads[name] and lines_size(lines) > 2:
         return [("tail", heads[name])]
     return [_folded_line(line, heads, addresses) for line in lines]
 
