@@ -68,3 +68,22 @@ def _places_of(program, text):
     many = len(text)
     return [place for place, line in program.places()
             if line == text[0] and program[place[0]][place[1]:place[1] + many] == text]
+
+
+def with_exchanges(program, exchanges, many):
+    """A dict from the names to the lines, with others instead of so many lines at each of some places."""
+    return {name: _exchanged(program, name, exchanges, many) for name in program.names}
+
+
+def _exchanged(program, name, exchanges, many):
+    """The lines of a function with others instead of so many lines at some places."""
+    lines = []
+    at = 0
+    while at < len(program[name]):
+        if (name, at) in exchanges:
+            lines.extend(exchanges[(name, at)])
+            at += many
+        else:
+            lines.append(program[name][at])
+            at += 1
+    return lines

@@ -1,6 +1,7 @@
 """What lines by themselves write and use: registers, and the flag, as bits of one integer."""
 
 from foldlines.limits import REGISTERS
+from foldlines.lines import registers_in
 
 # The registers have the bits from 1 to 32.
 FLAG = 64
@@ -47,6 +48,15 @@ def used_bits(line):
     for part in USED_PARTS.get(line[0], ()):
         used |= _bit_of(line[part])
     return used
+
+
+def named_bits(lines):
+    """The registers that stand in any of these lines."""
+    bits = 0
+    for line in lines:
+        for key in registers_in(line):
+            bits |= _bit_of(key)
+    return bits
 
 
 def _bit_of(part):

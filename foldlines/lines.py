@@ -90,6 +90,12 @@ def named_label(line):
     return line[1] if line[0] in JUMP_WORDS else None
 
 
+def registers_in(line):
+    """The registers that stand in a line, in the order in which they stand there."""
+    kinds = FORMS[line[0]]
+    return tuple([part for kind, part in zip(kinds, line[1:]) if kind in ("reg", "reg or link") and part != "link"])
+
+
 def marks_of(lines):
     """A dict from the labels of these lines to the indexes of their marks."""
     return {line[1]: at for at, line in enumerate(lines) if line[0] == "mark"}

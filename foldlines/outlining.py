@@ -1,6 +1,6 @@
 """Texts that come again become functions, and functions go back to where they are called."""
 
-from foldlines.covers import POP_LINK, PUSH_LINK, Ground, cover_of, text_of_lines
+from foldlines.covers import POP_LINK, PUSH_LINK, Ground, cover_of, text_of_lines, with_exchanges
 from foldlines.errors import InvalidName, InvalidPlaces, NotStraight, SameName
 from foldlines.gains import best
 from foldlines.lines import named_function
@@ -22,8 +22,7 @@ def outlined(program, name, lines, places=None):
     if not _are_chosen(program, told, chosen, len(text)):
         raise InvalidPlaces(chosen)
     exchanges = {place: ground.exchange(place, text, name) for place in chosen}
-    functions = {caller: _exchanged(program, caller, exchanges, len(text)) for caller in program.names}
-    return program.of_any_size({**functions, name: cover_of(text)})
+    return program.of_any_size({**with_exchanges(program, exchanges, len(text)), name: cover_of(text)})
 
 
 def require_new_name(program, name):
@@ -40,20 +39,6 @@ def _are_chosen(program, told, value, many):
         return False
     site_places = {place: True for place, _ in told}
     return all([place in site_places for place in value]) and are_apart(sorted(value), many)
-
-
-def _exchanged(program, name, exchanges, many):
-    """The lines of a function with others instead of so many lines at some places."""
-    lines = []
-    at = 0
-    while at < len(program[name]):
-        if (name, at) in exchanges:
-            lines.extend(exchanges[(name, at)])
-            at += many
-        else:
-            lines.append(program[name][at])
-            at += 1
-    return lines
 
 
 def inlined(program, name):

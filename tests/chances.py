@@ -3,7 +3,7 @@
 import random
 
 import reference
-from foldlines.programs import Program
+from foldlines.programs import BareProgram, Program
 from foldlines.sweeping import swept
 
 NAMES = ("main", "a", "b", "end")
@@ -252,3 +252,105 @@ def chunked_programs(number, many):
     """So many chunked programs, the same ones for the same number."""
     chance = random.Random(number)
     return [chunked_program(chance) for _ in range(many)]
+
+
+def numbered_program(chance):
+    """A swept program in which the same lines come again and again with other numbers, registers being wanted or not."""
+    names = ["main", "a", "b"][:chance.randrange(1, 4)]
+    chunks = [chunk(chance, names) + [("num", chance.randrange(4), 9), ("out", chance.randrange(4))] for _ in range(2)]
+    functions = {}
+    for name in names:
+        inner = []
+        for _ in range(chance.randrange(2, 6)):
+            inner += [("num", line[1], chance.choice(NUMBERS)) if line[0] == "num" and chance.random() < 0.6 else line
+                      for line in chance.choice(chunks)]
+            if chance.random() < 0.3:
+                inner.append(chance.choice((("out", 4), ("add", 4, 4, 5), ("in", 5), ("num", 5, 1))))
+        if any(line[0] == "call" for line in inner):
+            inner = [("push", "link"), *inner, ("pop", "link")]
+        end = [("stop",)] if name == "main" and chance.random() < 0.8 else [("back",)]
+        calls = [("call", other) for other in names[1:]] if name == "main" and end == [("stop",)] else []
+        functions[name] = [*inner, *calls, *end]
+    if max(map(len, functions.values())) > 60:
+        return numbered_program(chance)
+    return swept(Program(functions))
+
+
+def numbered_programs(number, many):
+    """So many numbered programs, the same ones for the same number."""
+    chance = random.Random(number)
+    return [numbered_program(chance) for _ in range(many)]
+
+
+def ended_program(chance):
+    """A swept program in whose functions branches end alike, with rows that are alike or not."""
+    functions = {}
+    names = ["main", "a", "b"][:chance.randrange(1, 4)]
+    for name in names:
+        tails = [[("out", chance.randrange(2)) for _ in range(chance.randrange(4))] for _ in range(2)]
+        ends = chance.sample([("back",), ("stop",), ("tail", chance.choice(names)), ("jump", "l")], 2)
+        lines = [("mark", "l"), ("in", 0), ("less", 0, 1)]
+        for at in range(chance.randrange(1, 7)):
+            label = "m" + chr(97 + at)
+            end = chance.choice(ends)
+            tail = chance.choice(tails)[chance.randrange(2):]
+            if chance.random() < 0.4:
+                tail = [("push", 2), *tail] if end == ("stop",) else [("push", 2), *tail, ("pop", 3)]
+            if chance.random() < 0.3:
+                tail = [("same", 0, 1), *tail]
+            if chance.random() < 0.3:
+                tail = [("push", "link"), *tail, ("call", chance.choice(names)), ("pop", "link")]
+            lines += [(chance.choice(("if", "unless")), label), *tail, end, ("mark", label)]
+        functions[name] = [*lines, *chance.choice(tails), chance.choice(ends)]
+    tidy = all(reference.is_tidy(lines, False) for lines in functions.values())
+    if max(map(len, functions.values())) > 60 or not tidy:
+        return ended_program(chance)
+    return swept(Program(functions))
+
+
+def ended_programs(number, many):
+    """So many programs with ends that are alike, the same ones for the same number."""
+    chance = random.Random(number)
+    return [ended_program(chance) for _ in range(many)]
+
+
+def bare_program(chance):
+    """A swept bare program; most of its functions have loops and branches around calls."""
+    if chance.random() < 0.3:
+        return swept(BareProgram(tidy_program(chance, True)))
+    names = ["main", "a", "b"][:chance.randrange(1, 4)]
+    functions = {}
+    for name in names:
+        labels = ["l", "m", "n", "o"][:chance.randrange(5)]
+        lines = [chance.choice((("in", 0), ("out", 0), ("less", 0, 1), ("add", 0, 0, 0))) for _ in range(3)]
+        lines += [chance.choice((("call", chance.choice(names)), ("callr", 2), ("call", chance.choice(names)),
+                                 ("back",), ("stop",), ("tail", chance.choice(names)), ("addr", 2, name)))
+                  for _ in range(chance.randrange(1, 4))]
+        lines += [(chance.choice(("if", "unless", "jump")), label) for label in labels]
+        lines += [("mark", label) for label in labels]
+        chance.shuffle(lines)
+        functions[name] = [("in", 0), ("less", 0, 1), *lines, chance.choice((("back",), ("stop",), ("tail", names[-1])))]
+    return swept(BareProgram(functions))
+
+
+def bare_programs(number, many):
+    """So many bare programs, the same ones for the same number."""
+    chance = random.Random(number)
+    return [bare_program(chance) for _ in range(many)]
+
+
+def jumping_program(chance):
+    """A swept program of one function in which jumps go over about as much as short ones may."""
+    labels = ["j" + chr(97 + at) for at in range(chance.randrange(1, 8))]
+    lines = [(chance.choice(("if", "unless")), label) for label in labels for _ in range(chance.choice((1, 1, 1, 2)))]
+    lines += [("mark", label) for label in labels]
+    lines += [chance.choice((("out", 0), ("num", 0, 100), ("in", 0), ("num", 1, 2))) for _ in range(
+        chance.randrange(1, 25))]
+    chance.shuffle(lines)
+    return swept(Program({"main": [*lines, ("stop",)]}))
+
+
+def jumping_programs(number, many):
+    """So many programs of jumps, the same ones for the same number."""
+    chance = random.Random(number)
+    return [jumping_program(chance) for _ in range(many)]

@@ -111,3 +111,12 @@ def are_right_lines(lines, names):
 def again():
     text = [("in", 0), ("add", 0, 0, 0), ("mul", 1, 0, 0), ("out", 1)]
     return Program({"main": [*text, *text, *text, ("stop",)]})
+
+
+def ends():
+    return Program.of(("in", 0), ("less", 0, 1), ("if", "a"), ("out", 0), ("out", 1), ("out", 2), ("stop",),
+                      ("mark", "a"), ("in", 0), ("out", 1), ("out", 2), ("stop",))
+
+
+def loop():
+    return Program.of(("mark", "a"), ("in", 0), ("same", 0, 1), ("unless", "a"), ("stop",))

@@ -2,20 +2,23 @@
 
 import unittest
 
+from foldlines.ends import shared, sharing
 from foldlines.errors import Untidy
 from foldlines.facts import idle, known, wanted, writes
 from foldlines.flow import own, rows
 from foldlines.folds import classes, folded, is_unlike
 from foldlines.gains import best, cover, gain
 from foldlines.holders import shown
+from foldlines.lengths import laid_size, lengths
 from foldlines.likeness import alike, core
+from foldlines.links import is_saving, linked, saving
 from foldlines.outlining import inlined, outlined
 from foldlines.passes import cheaper, dropped
-from foldlines.programs import BareProgram, Program
+from foldlines.programs import Program
 from foldlines.runs import run
 from foldlines.stretches import reason
 from foldlines.sweeping import is_swept
-from samples import again, facts, rings, seen, twice
+from samples import again, bare, ends, facts, loop, rings, seen, twice
 
 
 class ExamplesTest(unittest.TestCase):
@@ -66,11 +69,20 @@ class ExamplesTest(unittest.TestCase):
     def test_programs_of_the_document(self):
         self.assertEqual(run(facts(), [], 99), ((100,), "stop", 7))
         self.assertEqual(run(again(), [1, 2, 3], 99)[0], (4, 16, 36))
-        ends = Program.of(("in", 0), ("less", 0, 1), ("if", "a"), ("out", 0), ("out", 1), ("out", 2), ("stop",),
-                          ("mark", "a"), ("in", 0), ("out", 1), ("out", 2), ("stop",))
-        self.assertEqual((ends.size, is_swept(ends)), (12, True))
-        loop = Program.of(("mark", "a"), ("in", 0), ("same", 0, 1), ("unless", "a"), ("stop",))
-        self.assertEqual((loop.size, is_swept(loop)), (5, True))
-        bare = BareProgram.read("function f\nin 0\nless 0 1\nif out\ncall f\nmark out\nback\n"
-                                "function main\ncall f\nout 0\nback")
-        self.assertEqual((is_swept(bare), run(bare, [-5, 6], 99)[:2]), (True, ((-5,), "back")))
+        self.assertEqual((ends().size, is_swept(ends())), (12, True))
+        self.assertEqual((loop().size, is_swept(loop())), (5, True))
+        self.assertEqual((is_swept(bare()), run(bare(), [-5, 6], 99)[:2]), (True, ((-5,), "back")))
+
+    def test_shared_ends(self):
+        told = [sharing(ends(), "main"), ends().size, shared(ends()).size, shared(ends())["main"][4],
+                shared(ends())["main"][-1]]
+        self.assertEqual(told, [((11, 6, 3),), 12, 11, ("mark", "b"), ("jump", "b")])
+
+    def test_link_lines(self):
+        self.assertEqual([saving(bare(), "f"), linked(bare())["f"]], [
+            (3,), (("in", 0), ("less", 0, 1), ("if", "out"), ("push", "link"), ("call", "f"), ("pop", "link"),
+                   ("mark", "out"), ("back",))])
+        self.assertIs(is_saving(bare(), "f", ((3,), ((-1, 0, 1, 2, 3), (5, 4, 3)))), True)
+
+    def test_lengths(self):
+        self.assertEqual([lengths(loop()), loop().size, laid_size(loop())], [{("main", 3): 1}, 5, 4])

@@ -5,8 +5,8 @@ import inspect
 import pathlib
 import unittest
 
-from foldlines import errors, facts, flow, folds, gains, holders, likeness, outlining, passes, runs, straightening
-from foldlines import stretches, sweeping
+from foldlines import ends, errors, facts, flow, folds, gains, holders, lengths, likeness, links, outlining, passes
+from foldlines import patterns, runs, straightening, stretches, sweeping
 from foldlines.errors import NotSwept
 from foldlines.programs import BareProgram, Program
 from foldlines.runs import Run, run
@@ -31,6 +31,12 @@ FUNCTIONS = {
             "is_gain": ["program", "lines", "value"]},
     outlining: {"outlined": ["program", "name", "lines", "places"], "inlined": ["program", "name"],
                 "rounds": ["program"]},
+    patterns: {"near_gain": ["program", "pattern"], "best_near": ["program"],
+               "outlined_near": ["program", "name", "pattern"]},
+    ends: {"sharing": ["program", "name"], "shared": ["program"]},
+    links: {"saving": ["bare", "name"], "linked": ["bare"], "saving_paper": ["bare", "name"],
+            "is_saving": ["bare", "name", "value"]},
+    lengths: {"lengths": ["program"], "laid_size": ["program"]},
 }
 METHODS = {
     Program: {"__init__": ["self", "functions"], "size_of": ["self", "name"], "places": ["self"],
@@ -113,8 +119,11 @@ class ConventionsTest(unittest.TestCase):
     def test_equal_calls_return_equal_results(self):
         for action in (flow.live, holders.holds, holders.shown, sweeping.swept, facts.writes, facts.known, facts.idle,
                        straightening.straightened, passes.cheaper, passes.dropped, folds.classes, folds.folded,
-                       likeness.core, gains.best):
+                       likeness.core, gains.best, patterns.best_near, ends.shared, lengths.lengths,
+                       lengths.laid_size):
             self.assertEqual(action(twice()), action(twice()))
+        self.assertEqual(links.linked(bare()), links.linked(bare()))
+        self.assertEqual(links.saving_paper(bare(), "f"), links.saving_paper(bare(), "f"))
         self.assertEqual(run(twice(), [], 99), run(twice(), [], 99))
 
     def test_a_call_that_raises_changes_nothing(self):

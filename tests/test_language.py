@@ -153,6 +153,17 @@ class LanguageTest(unittest.TestCase):
             self.assertEqual(names.count(maker), 1, maker)
             self.assertNotIn(maker, METHODS)
 
+    def test_attributes(self):
+        """Attributes have no names of methods of builtin values, and none of methods of any class."""
+        barred = set("items keys values pop update append clear extend insert remove reverse setdefault sort args encode "
+                     "decode hex fromhex format".split())
+        methods = {part.name for _, node in nodes(ast.ClassDef) for part in node.body
+                   if isinstance(part, ast.FunctionDef)}
+        self.assertFalse(methods & barred)
+        for name, node in nodes(ast.Attribute):
+            if isinstance(node.ctx, ast.Store):
+                self.assertNotIn(node.attr, barred | methods, name)
+
     def test_module_level(self):
         for name, tree in trees():
             for node in tree.body:

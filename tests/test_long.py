@@ -3,14 +3,18 @@
 import time
 import unittest
 
+from foldlines.ends import shared, sharing
 from foldlines.facts import idle, is_idle, is_known, known, link_wanted, wanted, writes
 from foldlines.folds import are_closed, classes, folded, is_unlike, unlike
 from foldlines.gains import best, gain, is_gain, sites
 from foldlines.holders import holds, shown
+from foldlines.lengths import laid_size, lengths
 from foldlines.likeness import alike, core
+from foldlines.links import is_saving, linked, saving, saving_paper
 from foldlines.outlining import inlined, outlined, rounds
 from foldlines.passes import cheaper, dropped
-from foldlines.programs import Program
+from foldlines.patterns import best_near, near_gain, outlined_near
+from foldlines.programs import BareProgram, Program
 from foldlines.straightening import straightened
 from foldlines.sweeping import is_swept
 from samples import is_right
@@ -72,11 +76,47 @@ def texts_again():
     return Program(functions)
 
 
+def numbers_again():
+    """Lines of numbers that come again in all functions, but for one that is another one in each."""
+    return Program({name: [("num", 0, at * 7 % 97 if at != 30 else number) for at in range(59)]
+                    + [("tail", FOURS[number - 1])] for number, name in enumerate(FOURS)})
+
+
+def one_number_again():
+    return Program({name: [("num", 0, 9)] * 59 + [("tail", FOURS[at - 1])] for at, name in enumerate(FOURS)})
+
+
+def ends_again():
+    """Many branches that end alike."""
+    functions = {}
+    for number, name in enumerate(FOURS):
+        lines = [line for at in range(10) for line in
+                 (("if", label(at)), ("out", at % 2), ("out", 1), ("out", 2), ("stop",), ("mark", label(at)))][:54]
+        functions[name] = [*lines, ("in", 0), ("out", 1), ("out", 2), ("tail", FOURS[number - 1])]
+    return Program(functions)
+
+
+def bare_loops():
+    """Bare functions with many calls between branches that go to and fro."""
+    functions = {}
+    for number, name in enumerate(FOURS):
+        lines = [line for at in range(14) for line in
+                 (("mark", label(at)), ("in", 0), ("if", label(at * 5 % 14)), ("call", FOURS[number - 1]))]
+        functions[name] = [*lines, ("out", 0), ("less", 0, 1), ("in", 1), ("back",)]
+    return BareProgram(functions)
+
+
+def bare_rows():
+    return BareProgram({name: [("call", NAMES[at - 1]), ("in", 0)] * 4 + [("in", 1), ("back",)]
+                        for at, name in enumerate(NAMES)})
+
+
 def label(at):
     return "l" + chr(97 + at)
 
 
-LONG = (calls_by_registers, tails_in_a_ring, calls_in_a_ring, loops, chains_of_jumps, one_line_again, texts_again)
+LONG = (calls_by_registers, tails_in_a_ring, calls_in_a_ring, loops, chains_of_jumps, one_line_again, texts_again,
+        numbers_again, one_number_again, ends_again)
 
 
 class LongTest(unittest.TestCase):
@@ -132,6 +172,45 @@ class LongTest(unittest.TestCase):
             if best(program) is not None:
                 made = self.in_time(outlined, program, "g", lines)
                 self.assertTrue(is_right(self.in_time(inlined, made, "g")))
+
+    def test_patterns(self):
+        found = 0
+        for make in LONG:
+            program = make()
+            told = self.in_time(best_near, program)
+            if told is not None:
+                found += 1
+                self.assertEqual(self.in_time(near_gain, program, told[0])[0], told[1])
+                made = self.in_time(outlined_near, program, "g", told[0])
+                self.assertTrue(is_right(made))
+                self.assertEqual(program.size - made.size, told[1])
+        self.assertGreater(found, 2)
+
+    def test_ends(self):
+        for make in LONG:
+            program = make()
+            made = self.in_time(shared, program)
+            self.assertTrue(is_right(made))
+            self.assertLessEqual(made.size, program.size)
+            for name in program.names:
+                self.in_time(sharing, program, name)
+        self.assertLess(shared(ends_again()).size, ends_again().size - 30)
+
+    def test_links(self):
+        for make in (bare_loops, bare_rows):
+            bare = make()
+            self.assertIs(is_swept(bare), True)
+            self.assertTrue(is_right(self.in_time(linked, bare)))
+            for name in bare.names:
+                paper = self.in_time(saving_paper, bare, name)
+                self.assertIs(self.in_time(is_saving, bare, name, paper), True)
+                self.assertEqual(self.in_time(saving, bare, name), paper[0])
+
+    def test_lengths(self):
+        for make in LONG:
+            program = make()
+            self.assertEqual(set(self.in_time(lengths, program).values()) - {1, 2}, set())
+            self.assertLessEqual(self.in_time(laid_size, program), program.size)
 
     def test_rounds(self):
         for make in (one_line_again, texts_again):
