@@ -22,7 +22,8 @@ def outlined(program, name, lines, places=None):
     if not _are_chosen(program, told, chosen, len(text)):
         raise InvalidPlaces(chosen)
     exchanges = {place: ground.exchange(place, text, name) for place in chosen}
-    return program.of_any_size({**with_exchanges(program, exchanges, len(text)), name: cover_of(text)})
+    functions = with_exchanges(program, exchanges, len(text))
+    return program.of_any_size({**functions, name: cover_of(text)})
 
 
 def require_new_name(program, name):

@@ -20,6 +20,17 @@ def line_text(line):
     return " ".join([str(part) for part in line])
 
 
+def lines_text(lines):
+    """The text of lines that stand in one row."""
+    return " ; ".join([line_text(line) for line in lines])
+
+
+def lines_of_row(row):
+    """The lines whose text, in one row, this is; None if it is not the text of lines."""
+    lines = tuple([line_of(part) for part in row.split(" ; ")])
+    return lines if all([is_line(line) for line in lines]) else None
+
+
 def functions_of(text):
     """The functions that a text has; raises InvalidText for any value that is no such text."""
     if not isinstance(text, str):
@@ -46,10 +57,10 @@ def _is_head(row, last):
 
 def line_of(row):
     """The parts of a row of a text, a tuple, which need not be a line."""
-    return tuple([_part_of(part) for part in row.split(" ")])
+    return tuple([part_of(part) for part in row.split(" ")])
 
 
-def _part_of(part):
+def part_of(part):
     """A part as an integer if it is written as the text of one, otherwise as it is."""
     digits = part.removeprefix("-")
     # No number has more than ten digits, and Python refuses to turn very long ones into integers.

@@ -1,7 +1,9 @@
-"""The examples of the document, as far as the files that are there can run them."""
+"""The examples of the document, and what the programs that they begin with do."""
 
 import unittest
 
+from foldlines.benchlogs import LoggedBench
+from foldlines.consoles import Console
 from foldlines.ends import shared, sharing
 from foldlines.errors import Untidy
 from foldlines.facts import idle, known, wanted, writes
@@ -16,12 +18,23 @@ from foldlines.outlining import inlined, outlined
 from foldlines.passes import cheaper, dropped
 from foldlines.programs import Program
 from foldlines.runs import run
+from foldlines.smallest import smallest
 from foldlines.stretches import reason
 from foldlines.sweeping import is_swept
 from samples import again, bare, ends, facts, loop, rings, seen, twice
 
 
 class ExamplesTest(unittest.TestCase):
+    def test_rows_of_logs_and_consoles(self):
+        console = Console()
+        self.assertEqual(console.say("load\n" + Program.of(*[("in", 0), ("out", 0)] * 12, ("stop",)).text), "ok")
+        self.assertRegex(console.say("best"), "^[0-9]+ : in 0 ; out 0")
+        bench = LoggedBench(rings())
+        bench.make("cheaper")
+        bench.make("dropped")
+        bench.make("folded")
+        self.assertEqual(bench.log.split("\n")[2], "3 make folded 11")
+
     def test_twice(self):
         told = [twice().size, run(twice(), [], 20), rows(twice(), "main")[3], own(twice(), "main")]
         self.assertEqual(told, [9, ((10,), "back", 8), ("link",), (0, 1, 2, 4, 5)])
@@ -42,8 +55,8 @@ class ExamplesTest(unittest.TestCase):
         self.assertEqual(told, [{"f": (2,), "main": (0, 1, 2)}, {0: 100, 1: 100}, (1,), (("f", 0), ("main", 0))])
 
     def test_passes(self):
-        told = [cheaper(facts())["main"][2], dropped(facts())["main"]]
-        self.assertEqual(told, [("copy", 1, 0), (("call", "f"), ("num", 1, 100), ("out", 1), ("stop",))])
+        told = [cheaper(facts())["main"][2], dropped(facts())["main"], smallest(facts())[1]]
+        self.assertEqual(told, [("copy", 1, 0), (("call", "f"), ("num", 1, 100), ("out", 1), ("stop",)), ("dropped",)])
 
     def test_folds(self):
         told = [classes(rings()), folded(rings()).names, folded(rings()).size]

@@ -6,11 +6,14 @@ import pathlib
 import unittest
 
 from foldlines import ends, errors, facts, flow, folds, gains, holders, lengths, likeness, links, outlining, passes
-from foldlines import patterns, runs, straightening, stretches, sweeping
+from foldlines import patterns, runs, smallest, straightening, stretches, sweeping
+from foldlines.benches import Bench, CountingBench, GuardedBench, GuardedCountingBench
+from foldlines.benchlogs import LoggedBench
+from foldlines.consoles import Console
 from foldlines.errors import NotSwept
 from foldlines.programs import BareProgram, Program
 from foldlines.runs import Run, run
-from samples import bare, twice
+from samples import bare, same, twice
 
 FUNCTIONS = {
     flow: {"reached": ["program", "name"], "ways": ["program", "name"], "rows": ["program", "name"],
@@ -37,6 +40,7 @@ FUNCTIONS = {
     links: {"saving": ["bare", "name"], "linked": ["bare"], "saving_paper": ["bare", "name"],
             "is_saving": ["bare", "name", "value"]},
     lengths: {"lengths": ["program"], "laid_size": ["program"]},
+    smallest: {"passed": ["program", "word"], "smallest": ["program"], "replayed": ["program", "row"]},
 }
 METHODS = {
     Program: {"__init__": ["self", "functions"], "size_of": ["self", "name"], "places": ["self"],
@@ -45,10 +49,23 @@ METHODS = {
               "__contains__": None, "__eq__": None},
     BareProgram: {"__init__": ["self", "functions"]},
     Run: {"__init__": ["self", "program", "inputs"], "step": ["self"], "go": ["self", "many"], "walk": ["self"]},
+    Bench: {"__init__": ["self", "program"], "edit": ["self", "name", "lines"], "make": ["self", "word"],
+            "put": ["self", "name", "lines"], "take": ["self", "name"], "program_at": ["self", "number"],
+            "sizes": ["self"], "undo": ["self", "count"], "redo": ["self", "count"], "attempt": ["self", "action"],
+            "explore": ["self", "action"], "of_text": ["cls", "text"]},
+    GuardedBench: {"__init__": ["self", "program", "*guards"]},
+    CountingBench: {"__init__": ["self", "program"]},
+    GuardedCountingBench: {"__init__": ["self", "program", "*guards"]},
+    LoggedBench: {"__init__": ["self", "program"], "replayed": ["program", "log"]},
+    Console: {"__init__": ["self"], "say": ["self", "row"]},
 }
 PROPERTIES = {
     Program: ["functions", "names", "size", "text"],
     Run: ["outputs", "end", "steps", "place", "depth", "visits"],
+    Bench: ["program", "size", "moment", "undone", "depth", "steps"],
+    CountingBench: ["counts"],
+    LoggedBench: ["log"],
+    Console: ["bench"],
 }
 
 
@@ -83,6 +100,9 @@ class InterfaceTest(unittest.TestCase):
         self.assertTrue(inspect.isgeneratorfunction(Program.places))
         self.assertTrue(inspect.isgeneratorfunction(Run.walk))
         self.assertTrue(inspect.isgeneratorfunction(outlining.rounds))
+        self.assertIsInstance(vars(Bench)["of_text"], classmethod)
+        self.assertIsInstance(vars(LoggedBench)["replayed"], staticmethod)
+        self.assertTrue(inspect.isgeneratorfunction(Bench.sizes))
 
     def test_properties_stand_in_their_classes(self):
         for kind, names in PROPERTIES.items():
@@ -90,7 +110,8 @@ class InterfaceTest(unittest.TestCase):
                 self.assertIsInstance(vars(kind)[name], property)
 
     def test_properties_are_not_assigned(self):
-        for thing, kind in ((twice(), Program), (Run(twice()), Run)):
+        for thing, kind in ((twice(), Program), (Run(twice()), Run), (Bench(twice()), Bench), (Console(), Console),
+                            (CountingBench(twice()), CountingBench), (LoggedBench(twice()), LoggedBench)):
             for name in PROPERTIES[kind]:
                 with self.assertRaises(AttributeError):
                     setattr(thing, name, None)
@@ -99,10 +120,15 @@ class InterfaceTest(unittest.TestCase):
         self.assertEqual(inspect.signature(Run).parameters["inputs"].default, ())
         for action, name in ((passes.cheaper, "table"), (passes.dropped, "places"), (outlining.outlined, "places")):
             self.assertIs(inspect.signature(action).parameters[name].default, None)
+        for action in (Bench.undo, Bench.redo):
+            self.assertTrue(same(inspect.signature(action).parameters["count"].default, 1))
 
     def test_classes_stand_in_their_files(self):
         self.assertEqual((Program.__module__, BareProgram.__module__), ("foldlines.programs", "foldlines.programs"))
         self.assertEqual(Run.__module__, "foldlines.runs")
+        for kind in (Bench, GuardedBench, CountingBench, GuardedCountingBench):
+            self.assertEqual(kind.__module__, "foldlines.benches")
+        self.assertEqual((LoggedBench.__module__, Console.__module__), ("foldlines.benchlogs", "foldlines.consoles"))
         self.assertEqual(BareProgram.__bases__, (Program,))
         self.assertIsInstance(bare(), Program)
         for name, value in vars(errors).items():
@@ -120,7 +146,7 @@ class ConventionsTest(unittest.TestCase):
         for action in (flow.live, holders.holds, holders.shown, sweeping.swept, facts.writes, facts.known, facts.idle,
                        straightening.straightened, passes.cheaper, passes.dropped, folds.classes, folds.folded,
                        likeness.core, gains.best, patterns.best_near, ends.shared, lengths.lengths,
-                       lengths.laid_size):
+                       lengths.laid_size, smallest.smallest):
             self.assertEqual(action(twice()), action(twice()))
         self.assertEqual(links.linked(bare()), links.linked(bare()))
         self.assertEqual(links.saving_paper(bare(), "f"), links.saving_paper(bare(), "f"))

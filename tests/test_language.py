@@ -60,15 +60,40 @@ class LanguageTest(unittest.TestCase):
             self.assertLess(node.end_lineno - node.lineno, 40, (name, node.name))
 
     def test_statements(self):
-        barred = (ast.Import, ast.Global, ast.AsyncFunctionDef, ast.Await, ast.Try, ast.With, ast.Match, ast.Div,
-                  ast.Set)
+        barred = (ast.Import, ast.Global, ast.AsyncFunctionDef, ast.Await, ast.With, ast.Match, ast.Div, ast.Set)
         self.assertEqual(nodes(*barred), [])
         for name, node in nodes(ast.Constant):
             self.assertNotIsInstance(node.value, (float, complex), name)
             if isinstance(node.value, str):
                 self.assertNotIn("%", node.value, name)
-        for name, node in nodes(ast.Assert, ast.Lambda, ast.NamedExpr):
+        for name, node in nodes(ast.Assert, ast.NamedExpr):
             self.fail((name, node.lineno))
+        lambdas = [(name, node.lineno) for name, node in nodes(ast.Lambda)]
+        self.assertEqual(len(set(lambdas)), len(lambdas))
+
+    def test_handlers_name_own_errors(self):
+        own = {node.name for node in dict(trees())["errors.py"].body if isinstance(node, ast.ClassDef)}
+        for name, node in nodes(ast.ExceptHandler):
+            caught = node.type.elts if isinstance(node.type, ast.Tuple) else [node.type]
+            self.assertLessEqual({part.id for part in caught}, own, name)
+            self.assertIsNone(node.name)
+
+    def test_what_is_done_at_last_is_simple(self):
+        """Assignments of names, steps by a literal, and tests for None: nothing else stands in a finally."""
+        for name, node in nodes(ast.Try):
+            todo = list(node.finalbody)
+            while todo:
+                row = todo.pop()
+                if isinstance(row, ast.If):
+                    self.assertIsInstance(row.test, ast.Compare)
+                    self.assertEqual([type(op) for op in row.test.ops], [ast.Is])
+                    self.assertEqual(row.orelse, [])
+                    todo += row.body
+                elif isinstance(row, ast.AugAssign):
+                    self.assertIsInstance(row.value, ast.Constant)
+                else:
+                    self.assertIsInstance(row, ast.Assign, name)
+                    self.assertIsInstance(row.value, ast.Name, name)
 
     def test_imports(self):
         stems = {path.stem for path in files()}

@@ -3,6 +3,9 @@
 import time
 import unittest
 
+from foldlines.benches import Bench
+from foldlines.benchlogs import LoggedBench
+from foldlines.consoles import Console
 from foldlines.ends import shared, sharing
 from foldlines.facts import idle, is_idle, is_known, known, link_wanted, wanted, writes
 from foldlines.folds import are_closed, classes, folded, is_unlike, unlike
@@ -15,6 +18,7 @@ from foldlines.outlining import inlined, outlined, rounds
 from foldlines.passes import cheaper, dropped
 from foldlines.patterns import best_near, near_gain, outlined_near
 from foldlines.programs import BareProgram, Program
+from foldlines.smallest import PASSES, passed, replayed, smallest
 from foldlines.straightening import straightened
 from foldlines.sweeping import is_swept
 from samples import is_right
@@ -218,3 +222,45 @@ class LongTest(unittest.TestCase):
             told = list(rounds(make()))
             self.assertLess(time.perf_counter() - before, 0.9 * (len(told) + 1))
             self.assertGreater(len(told), 1)
+
+    def test_smallest(self):
+        for make in LONG:
+            program = make()
+            before = time.perf_counter()
+            made, row = smallest(program)
+            self.assertLess(time.perf_counter() - before, 3, make)
+            self.assertTrue(is_right(made))
+            self.assertEqual(replayed(program, row), made)
+            for word in PASSES:
+                self.in_time(passed, program, word)
+
+    def test_long_histories(self):
+        bench = LoggedBench(Program.of(("in", 0), ("stop",)))
+        many = 1500
+        before = time.perf_counter()
+        for at in range(many):
+            bench.edit("main", [("in", at % 6), ("out", at % 5), ("stop",)])
+        self.assertLess(time.perf_counter() - before, 0.9)
+        self.in_time(bench.undo, many)
+        self.in_time(bench.redo, many)
+        for action in (lambda: bench.log, lambda: list(bench.sizes()), lambda: bench.steps,
+                       lambda: [bench.program_at(at) for at in range(many + 1)],
+                       lambda: bench.explore(lambda given: given.undo(many)),
+                       lambda: [bench.attempt(lambda given: given.moment) for _ in range(100)]):
+            self.in_time(action)
+        self.assertEqual(self.in_time(LoggedBench.replayed, bench.program_at(0), bench.log).log, bench.log)
+
+    def test_trials_within_many_trials(self):
+        def action(bench):
+            bench.make("dropped")
+            return bench.explore(action) if bench.depth < 100 else bench.moment
+
+        self.assertEqual(self.in_time(Bench(Program.of(("stop",))).explore, action), 100)
+
+    def test_consoles_of_long_programs(self):
+        for make in LONG:
+            console = Console()
+            self.in_time(console.say, "load\n" + make().text)
+            for row in ("size", "text", "table", "shown", "live", "classes", "best", "run 9999 1 2 3", "make near",
+                        "try make folded", "reason main 0 1", "undo"):
+                self.in_time(console.say, row)
