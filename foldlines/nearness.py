@@ -17,10 +17,11 @@ def may_be_in_pattern(line):
 
 
 class Strip:
-    """The lines of all functions of a program in a row, with a gap behind each function.
+    """The lines of all functions of a program in a row.
 
     Lines go by their spots in this row. What stands there is told by keys: two spots have the same key, which is
-    0 for a gap or a line that may not stand in a pattern, exactly if their lines are the same.
+    0 for a line that may not stand in a pattern, exactly if their lines are the same. The last line of a function
+    is always such a line, so that no stretch reaches into the next one.
     """
 
     def __init__(self, program):
@@ -44,17 +45,6 @@ class Strip:
                 self.spare.append(ALL_REGISTERS & ~ahead[(name, at)])
                 self.starts.append(self.starts[-1] + line_size(line))
                 self.linked.append(at in linked)
-            self._add_gap()
-
-    def _add_gap(self):
-        """Adds what stands behind a function."""
-        self.place_at.append(None)
-        self.line_keys.append(0)
-        self.number_keys.append(0)
-        self.named.append(0)
-        self.spare.append(0)
-        self.starts.append(self.starts[-1])
-        self.linked.append(False)
 
     def parted(self, group, offset, keys):
         """Groups of two or more spots of this one with the same key so far behind them, but without the keyless.

@@ -255,7 +255,7 @@ def chunked_programs(number, many):
 
 
 def numbered_program(chance):
-    """A swept program in which the same lines come again and again with other numbers, registers being wanted or not."""
+    """A swept program in which the same lines come again with other numbers, registers being wanted or not."""
     names = ["main", "a", "b"][:chance.randrange(1, 4)]
     chunks = [chunk(chance, names) + [("num", chance.randrange(4), 9), ("out", chance.randrange(4))] for _ in range(2)]
     functions = {}
@@ -280,6 +280,38 @@ def numbered_programs(number, many):
     """So many numbered programs, the same ones for the same number."""
     chance = random.Random(number)
     return [numbered_program(chance) for _ in range(many)]
+
+
+def crowded_program(chance):
+    """A swept program in which lines come again in as many ways as gain as much, and few registers are free."""
+    def chunk_of(key, many):
+        calm = [("num", key, 1), ("num", key, 2), ("out", key), ("out", key), ("add", key, key, key)]
+        return [("num", key, 1), *[chance.choice(calm) for _ in range(many)]]
+
+    chunks = [chunk_of(chance.randrange(2), many) for many in (chance.randrange(2, 6), chance.randrange(2, 6))]
+
+    def lines(many):
+        row = [chance.choice(chunks) for _ in range(many)]
+        row = [[("num", line[1], chance.randrange(3)) if line[0] == "num" and chance.random() < 0.2 else line
+                for line in part] for part in row]
+        for key in chance.sample([0, 1, 2, 3, 4, 5], chance.randrange(2, 6)):
+            first = chance.randrange(len(row))
+            row.insert(chance.randrange(first + 1, len(row) + 1), [("out", key)])
+            row.insert(first, [("in", key)])
+        return [line for part in row for line in part]
+
+    end = chance.choice((("back",), ("stop",)))
+    main = [("call", "f"), ("stop",)] if chance.random() < 0.5 else [*lines(3), ("call", "f"), ("stop",)]
+    functions = {"main": main, "f": [*lines(chance.randrange(3, 7)), end]}
+    if max(map(len, functions.values())) > 60:
+        return crowded_program(chance)
+    return swept(Program(functions))
+
+
+def crowded_programs(number, many):
+    """So many crowded programs, the same ones for the same number."""
+    chance = random.Random(number)
+    return [crowded_program(chance) for _ in range(many)]
 
 
 def ended_program(chance):
@@ -329,7 +361,8 @@ def bare_program(chance):
         lines += [(chance.choice(("if", "unless", "jump")), label) for label in labels]
         lines += [("mark", label) for label in labels]
         chance.shuffle(lines)
-        functions[name] = [("in", 0), ("less", 0, 1), *lines, chance.choice((("back",), ("stop",), ("tail", names[-1])))]
+        end = chance.choice((("back",), ("stop",), ("tail", names[-1])))
+        functions[name] = [("in", 0), ("less", 0, 1), *lines, end]
     return swept(BareProgram(functions))
 
 

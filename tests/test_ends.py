@@ -111,6 +111,14 @@ class SharingTest(unittest.TestCase):
             value, _ = self.told(*branches([*OUTS, *OUTS, STOP], last=[named, *OUTS, border, *OUTS, STOP]), *marked)
             self.assertEqual(value, ((19, 9, 4),))
 
+    def test_borders_that_are_the_same(self):
+        for word in ("if", "unless"):
+            lines = [("in", 0), (word, "x"), *OUTS, STOP, ("mark", "x"), ("in", 0), ("less", 0, 1), ("if", "y"),
+                     ("in", 1), (word, "z"), *OUTS, STOP, ("mark", "y"), ("in", 2), (word, "z"), *OUTS, STOP,
+                     ("mark", "z"), BACK]
+            value, _ = self.told(*lines)
+            self.assertEqual(value, ((15, 5, 4), (22, 5, 4)))
+
     def test_the_greatest_of_several(self):
         value, made = self.told(*branches([("out", 2), STOP], [("out", 1), ("out", 2), STOP], [*OUTS, STOP],
                                           last=[("in", 3), *OUTS, STOP]))

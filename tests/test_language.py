@@ -180,8 +180,8 @@ class LanguageTest(unittest.TestCase):
 
     def test_attributes(self):
         """Attributes have no names of methods of builtin values, and none of methods of any class."""
-        barred = set("items keys values pop update append clear extend insert remove reverse setdefault sort args encode "
-                     "decode hex fromhex format".split())
+        barred = set("items keys values pop update append clear extend insert remove reverse setdefault sort args "
+                     "encode decode hex fromhex format".split())
         methods = {part.name for _, node in nodes(ast.ClassDef) for part in node.body
                    if isinstance(part, ast.FunctionDef)}
         self.assertFalse(methods & barred)

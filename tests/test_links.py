@@ -183,6 +183,21 @@ class SavingTest(unittest.TestCase):
         self.assertIs(is_saving(program, "f", paper), False)
         self.assertIs(is_saving(program, "f", ((0, 3), ((-1, 0), (4, 3)))), False)
 
+    def test_choices_that_are_none(self):
+        program = with_callee(CALL, IN, CALL, BACK)
+        way_in, way_out = (-1, 0), (3, 2)
+        for saved, ways in (((0, 1, 2, 3), (way_in,)), ((0,), (way_in, way_out)), ((2,), (way_in, way_out)), ((), ()),
+                            ((1,), (way_in, way_out)), ((0, 2, 3), (way_in,)), ((-1, 0, 1, 2), (way_out,))):
+            self.assertIs(is_saving(program, "f", (saved, ways)), False, saved)
+        self.assertIs(is_saving(program, "f", ((0, 1, 2), (way_in, way_out))), True)
+        program = with_callee(IN, ("if", "a"), CALL, ("mark", "a"), CALL, BACK)
+        for saved in ((2, 3, 4), (1, 2, 4), (2, 4)):
+            for ways in (((-1, 0, 1, 2), (5, 4)), ((-1, 0, 1, 3, 4), (5, 4)),
+                         ((-1, 0, 1, 2), (5, 4), (-1, 0, 1, 2), (5, 4))):
+                self.assertIs(is_saving(program, "f", (saved, ways)), False)
+        for saved in ((1, 2, 3, 4), (0, 1, 2, 3, 4)):
+            self.assertIs(is_saving(program, "f", (saved, ((-1, 0, 1, 2), (5, 4)))), True)
+
     def test_any_value(self):
         for value in (*ANY_VALUES, PAPER[0], PAPER[1], (*PAPER, ()), PAPER[:1], list(PAPER), PAPER[::-1], (None, None)):
             self.assertIs(is_saving(bare(), "f", value), False)

@@ -221,6 +221,57 @@ class BestNearTest(unittest.TestCase):
         self.assertEqual(self.told(*other, *other, *other, *one, *one, *one, STOP)[0][0], ("num", 1, None))
         self.assertEqual(self.told(*one, *one, *one, *other, *other, *other, STOP)[0][0], ("num", 0, None))
 
+    def test_gains_of_one_and_of_none(self):
+        rest = [("out", 0)] * 6
+        self.assertEqual(self.told(*pieces(1, 2, rest=[("out", 0), *rest]), STOP)[1], 1)
+        self.assertIs(self.told(*pieces(1, 2, rest=rest), STOP), None)
+        # Each register is free at two of three places only, so that nothing is gained by all of them.
+        lines = [("in", 1), ("in", 2), ("in", 4), ("in", 5), *pieces(1, rest=rest), ("out", 4), *pieces(2, rest=rest),
+                 ("in", 3), *pieces(3, rest=rest), ("out", 3), ("out", 1), ("out", 2), ("out", 5), STOP]
+        self.assertIs(self.told(*lines), None)
+
+    def test_as_many_lines_and_an_earlier_place(self):
+        one = [("num", 0, 1), *[("out", 0)] * 7]
+        other = [("out", 1), ("num", 1, 1), *[("out", 1)] * 6]
+        lines = [*other, ("in", 2), *other, ("in", 3), *one, ("in", 4), *one, STOP]
+        self.assertEqual(self.told(*lines), ((("out", 1), ("num", 1, None), *other[2:]), 1))
+        lines = [*one, ("in", 2), *one, ("in", 3), *other, ("in", 4), *other, STOP]
+        self.assertEqual(self.told(*lines), ((("num", 0, None), *one[1:]), 1))
+
+    def test_more_lines_that_gain_as_much_where_less_might_be_gained(self):
+        # The short lines stand at three places, of which no register is free at more than two.
+        short = [("num", 0, 1), ("num", 5, 1000), *[("out", 0)] * 2, ("out", 5), ("out", 0)]
+        many = [("num", 0, 1), *[("out", 0)] * 7]
+        lines = [("in", 1), ("in", 2), ("in", 4), *short, ("out", 4), *short, ("in", 3), *short, ("out", 3),
+                 *many, ("in", 3), *many, ("out", 1), ("out", 2), STOP]
+        self.assertEqual(self.told(*lines), ((("num", 0, None), *many[1:]), 1))
+
+    def test_lines_behind_which_the_link_is_wanted(self):
+        rest = [("out", 0)] * 12
+        program = [("call", "f"), STOP]
+        self.assertEqual(self.told(*program, f=[*pieces(1, 2, 3, rest=rest[:8]), BACK])[1], 3 * 4 - 10)
+        self.assertEqual(self.told(*program, f=[*pieces(1, 2, rest=rest), BACK])[1], 2 * 8 - 14)
+        self.assertIs(self.told(*program, f=[*pieces(1, 2, rest=rest[:10]), BACK]), None)
+        self.assertEqual(self.told(*program, f=[*pieces(1, 2, rest=rest[:11]), BACK])[1], 1)
+
+    def test_each_register_that_may_be_free(self):
+        for key in range(1, 6):
+            wanted_ones = [other for other in range(1, 6) if other != key]
+            lines = [*(("in", other) for other in wanted_ones), *pieces(1, 2, rest=[("out", 0)] * 9),
+                     *(("out", other) for other in wanted_ones), STOP]
+            self.assertEqual(self.told(*lines)[1], 3)
+            self.assertEqual(near_gain(Program.of(*lines), [("num", 0, None), *[("out", 0)] * 9])[1], key)
+        lines = [("in", 1), ("in", 3), ("in", 4), ("in", 5),
+                 *[line for number in (1, 2) for line in (("num", 2, number), *[("out", 2)] * 9)],
+                 ("out", 1), ("out", 3), ("out", 4), ("out", 5), STOP]
+        self.assertEqual(self.told(*lines)[1], 3)
+
+    def test_a_flag_that_is_wanted(self):
+        rest = [("out", 0)] * 9
+        lines = [line for number in (1, 2)
+                 for line in (("less", number, 3), *pieces(number, rest=rest), ("if", "e"))]
+        self.assertEqual(self.told(*lines, ("out", 5), ("mark", "e"), STOP)[1], 3)
+
     def test_the_first_place_of_the_best_ones(self):
         one = [("num", 0, 1), *[("out", 0)] * 6]
         other = [("num", 1, 1), *[("out", 1)] * 6]

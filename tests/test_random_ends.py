@@ -5,8 +5,8 @@ import unittest
 
 import reference
 import reference_more as more
-from chances import bare_programs, built_programs, chunked_programs, ended_programs, jumping_programs
-from chances import numbered_programs
+from chances import bare_programs, built_programs, chunked_programs, crowded_programs, ended_programs
+from chances import jumping_programs, numbered_programs
 from foldlines.ends import shared, sharing
 from foldlines.lengths import laid_size, lengths
 from foldlines.lines import lines_size
@@ -41,7 +41,8 @@ class RandomTest(unittest.TestCase):
 class PatternsTest(RandomTest):
     def test_best_near(self):
         found = 0
-        for program in numbered_programs(1, 30) + chunked_programs(2, 15) + built_programs(3, 10):
+        programs = numbered_programs(1, 20) + chunked_programs(2, 15) + built_programs(3, 10) + crowded_programs(15, 90)
+        for program in programs:
             if sum(len(program[name]) for name in program.names) < 110:
                 told = best_near(program)
                 self.assertTrue(same(told, more.best_near(program.functions)))
@@ -50,7 +51,7 @@ class PatternsTest(RandomTest):
                     made = outlined_near(program, "zz", told[0])
                     self.assertEqual(program.size - made.size, told[1])
                     self.check(program, made)
-        self.assertGreater(found, 10)
+        self.assertGreater(found, 25)
 
     def test_near_gain(self):
         chance = random.Random(4)
