@@ -1,6 +1,6 @@
 """Stretches of lines that stand at several places but for the number of one num line."""
 
-from foldlines.effects import named_bits
+from foldlines.effects import named_bits, registers_of
 from foldlines.facts import link_wanted
 from foldlines.lines import CALL_WORDS, line_size
 from foldlines.repeats import LINK_LINES
@@ -49,8 +49,8 @@ class Strip:
     def parted(self, group, offset, keys):
         """Groups of two or more spots of this one with the same key so far behind them, but without the keyless.
 
-        A group is a tuple of spots and the registers that stand in their lines; at each spot there is a register
-        that is free for a number.
+        A group is a tuple of spots and the registers that stand in their lines. Each spot has a register that is free
+        for a number there, and at another spot of the group; the lines of the first and the last one do not overlap.
         """
         spots, named = group
         parts = {}
@@ -60,20 +60,43 @@ class Strip:
                 parts.setdefault(key, []).append(spot)
         found = []
         for part in parts.values():
-            if len(part) > 1:
-                more = named | self.named[part[0] + offset]
-                left = [spot for spot in part if self.spare[spot] & ~more]
-                if len(left) > 1:
-                    found.append((left, more))
+            more = named | self.named[part[0] + offset]
+            free = self._free_twice(part) & ~more
+            left = [spot for spot in part if self.spare[spot] & free]
+            if left and left[-1] - left[0] > offset:
+                found.append((left, more))
         return found
 
-    def most_gained(self, spots, many, hole):
-        """A number that is not below the gain of so many lines at these spots, the number at the hole being free."""
+    def _free_twice(self, spots):
+        """The registers that are spare at two or more of these spots."""
+        once = 0
+        twice = 0
+        for spot in spots:
+            twice |= once & self.spare[spot]
+            once |= self.spare[spot]
+        return twice
+
+    def most_gained(self, group, many, hole):
+        """A number that is not below the gain of so many lines at the spots of a group, the hole being free."""
+        spots, named = group
         first = spots[0]
         others = self.starts[first + many] - self.starts[first]
         others -= self.starts[first + hole + 1] - self.starts[first + hole]
-        cost = 4 if all([self.linked[spot + many] for spot in spots]) else 2
-        return _most_apart(spots, many) * (others - cost) - (others + 2)
+        everywhere = ALL_REGISTERS & ~named
+        for spot in spots:
+            everywhere &= self.spare[spot]
+        if everywhere:
+            return self._most_saved(spots, many, others) - (others + 2)
+        free = [[at for at in spots if self.spare[at] >> key & 1] for key in registers_of(~named)]
+        return max([self._most_saved(part, many, others) for part in free]) - (others + 2)
+
+    def _most_saved(self, spots, many, others):
+        """A number that is not below what is saved at these spots by so many lines, whose others have this size."""
+        cheap = _most_apart([spot for spot in spots if not self.linked[spot + many]], many)
+        # Where the link is wanted 4 are lost instead of 2, and nothing is saved by less.
+        if others <= 4:
+            return cheap * (others - 2)
+        return _most_apart(spots, many) * (others - 4) + cheap * 2
 
 
 def _most_apart(spots, many):
@@ -115,7 +138,7 @@ def _with_hole(strip, group, hole):
     while level:
         longer = []
         for tail in level:
-            most = strip.most_gained(tail[0], many, hole)
+            most = strip.most_gained(tail, many, hole)
             if most > 0:
                 found.append((-most, -many, hole, tail[0]))
             longer.extend(strip.parted(tail, many, strip.line_keys))

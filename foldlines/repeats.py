@@ -6,7 +6,10 @@ LINK_LINES = (("push", "link"), ("pop", "link"))
 
 
 def repeated_stretches(program):
-    """A list of tuples (places, many): the two or more places, ascending, at which the same so many lines stand."""
+    """A list of tuples (places, many): the two or more places, ascending, at which the same so many lines stand.
+
+    The lines at the first and the last one do not overlap.
+    """
     found = []
     level = [[place for place, _ in program.places()]]
     many = 0
@@ -29,7 +32,12 @@ def _parted(program, places, many):
         last = first + many - 1
         if last < len(lines) and _may_follow(lines, first, last):
             parts.setdefault(lines[last], []).append(place)
-    return [part for part in parts.values() if len(part) > 1]
+    return [part for part in parts.values() if _are_apart(part[0], part[-1], many)]
+
+
+def _are_apart(place, other, many):
+    """Whether so many lines at two places, the second one not being the lesser one, do not overlap."""
+    return place[0] != other[0] or other[1] - place[1] >= many
 
 
 def _may_follow(lines, first, last):

@@ -157,7 +157,8 @@ class ReplayedTest(unittest.TestCase):
                     "1 edit main stop =1", "1 edit main stop = 1 = 1", "1 edit gone stop = 1", "1 edit Main stop = 1",
                     "1 edit main pop 0 ; stop = 2", "1 edit main num 0 05 ; stop = 2",
                     "1 edit main num 0 -0 ; stop = 2", "1 edit main num 0 +5 ; stop = 2",
-                    "1 edit main call gone ; stop = 3", "1 edit main in 6 ; stop = 2", "1 edit main stop = 1 2", f"1 put main {TEXT_ROW} = 12", f"1 put G {TEXT_ROW} = 12",
+                    "1 edit main call gone ; stop = 3", "1 edit main in 6 ; stop = 2", "1 edit main stop = 1 2",
+                    f"1 put main {TEXT_ROW} = 12", f"1 put G {TEXT_ROW} = 12",
                     f"1 put g {TEXT_ROW} = 13", f"1 put g {TEXT_ROW} 12", "1 put g stop = 13", "1 put g 13",
                     "1 put g in 0 = 13", "1 put g mark a = 13", "1", "edit main stop = 1", "1 edit  stop = 1"):
             self.wrong(row, 0)

@@ -86,6 +86,19 @@ def numbers_again():
                     + [("tail", FOURS[number - 1])] for number, name in enumerate(FOURS)})
 
 
+def numbers_with_other_registers():
+    """Lines of numbers that come again, each function with other registers that are free there."""
+    goals = [("if", label(at)) for at in range(3)]
+    tails = [line for at in range(3) for line in (("mark", label(at)), ("tail", FOURS[at + 1]))]
+    functions = {}
+    for number, name in enumerate(FOURS):
+        outs = [("out", key) for key in range(1, 6) if key not in ((1, 2), (2, 3), (3, 4), (4, 1))[number]]
+        ends = [*outs, ("stop",), *tails] if name == "main" else [*outs, ("stop",)]
+        many = 60 - len(ends) - (3 if name == "main" else 0)
+        functions[name] = [*(goals if name == "main" else []), *[("num", 0, at * 7 % 97) for at in range(many)], *ends]
+    return Program(functions)
+
+
 def one_number_again():
     return Program({name: [("num", 0, 9)] * 59 + [("tail", FOURS[at - 1])] for at, name in enumerate(FOURS)})
 
@@ -120,7 +133,7 @@ def label(at):
 
 
 LONG = (calls_by_registers, tails_in_a_ring, calls_in_a_ring, loops, chains_of_jumps, one_line_again, texts_again,
-        numbers_again, one_number_again, ends_again)
+        numbers_again, numbers_with_other_registers, one_number_again, ends_again)
 
 
 class LongTest(unittest.TestCase):

@@ -225,10 +225,13 @@ class BestNearTest(unittest.TestCase):
         rest = [("out", 0)] * 6
         self.assertEqual(self.told(*pieces(1, 2, rest=[("out", 0), *rest]), STOP)[1], 1)
         self.assertIs(self.told(*pieces(1, 2, rest=rest), STOP), None)
-        # Each register is free at two of three places only, so that nothing is gained by all of them.
-        lines = [("in", 1), ("in", 2), ("in", 4), ("in", 5), *pieces(1, rest=rest), ("out", 4), *pieces(2, rest=rest),
-                 ("in", 3), *pieces(3, rest=rest), ("out", 3), ("out", 1), ("out", 2), ("out", 5), STOP]
-        self.assertIs(self.told(*lines), None)
+        # Register 3 is free at the first two of three places, register 4 at the last two, and no other one at any.
+        for many in (6, 7, 8, 9):
+            rest = [("out", 0)] * many
+            told = self.told(("in", 1), ("in", 2), ("in", 4), ("in", 5), *pieces(1, rest=rest), ("out", 4),
+                             *pieces(2, rest=rest), ("in", 3), *pieces(3, rest=rest), ("out", 3), ("out", 1),
+                             ("out", 2), ("out", 5), STOP)
+            self.assertEqual(told, None if many == 6 else ((("num", 0, None), *rest), many - 6))
 
     def test_as_many_lines_and_an_earlier_place(self):
         one = [("num", 0, 1), *[("out", 0)] * 7]

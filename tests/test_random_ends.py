@@ -41,7 +41,7 @@ class RandomTest(unittest.TestCase):
 class PatternsTest(RandomTest):
     def test_best_near(self):
         found = 0
-        programs = numbered_programs(1, 20) + chunked_programs(2, 15) + built_programs(3, 10) + crowded_programs(15, 90)
+        programs = numbered_programs(1, 20) + chunked_programs(2, 15) + built_programs(3, 10) + crowded_programs(15, 75)
         for program in programs:
             if sum(len(program[name]) for name in program.names) < 110:
                 told = best_near(program)
